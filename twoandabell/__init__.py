@@ -1,0 +1,1 @@
+"""Rule books of a scheduler, decided for any number of tasks."""

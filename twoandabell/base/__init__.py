@@ -1,0 +1,1 @@
+"""The words and numbers that everything else is made of."""

@@ -1,0 +1,1 @@
+"""Rule books, and what becomes of a task by them."""
