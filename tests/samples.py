@@ -24,7 +24,7 @@ ONE = Book(
 WIDE = Book(
     Level(2, used=(1, "front"), wake=(0, "front", "kept"), way=(2, "front", "kept"), lost=(2, "back", "kept")),
     Level(3, used=(2, "back"), wake=(0, "back", "kept"), way=(0, "front", "kept"), lost=(1, "front", "new"), takes=1),
-    Level(None, used=(0, "back"), wake=(1, "front", "kept"), way=(1, "back", "kept"), lost=(2, "back", "kept"), takes=2),
+    Level(used=(0, "back"), wake=(1, "front", "kept"), way=(1, "back", "kept"), lost=(2, "back", "kept"), takes=2),
     ranks=(0, 2, 1),
 )
 BOOKS = (FEED, LATE, ONE, WIDE)

@@ -32,11 +32,17 @@ INTERFACE = {
                "ParseError InvalidNumber NothingToUndo Stopped Parted UnknownName TooMany"),
     "base.words": "is_number is_place is_rest is_word is_entry",
     "book.books": "Level Book",
+    "text.books": "write_book read_book",
+    "book.states": "is_state fresh worked moved moves_alone posture_after postures way_to",
+    "run.queues": "Queues",
+    "run.loads": "is_load chart pictures first_parted is_parting without_task",
 }
 METHODS = {
     ("book.books", "Level"): "ticks used wake way lost takes __getitem__ __contains__ replaced plain __eq__ __str__",
     ("book.books", "Book"): ("of levels ranks is_open __len__ __iter__ __getitem__ __contains__ entries with_entry "
                              "values_for __sub__ __eq__ __str__"),
+    ("run.queues", "Queues"): ("enter leave pick __getitem__ tasks __len__ __bool__ __contains__ level_of best "
+                               "is_ahead twin __eq__ __str__"),
 }
 
 

@@ -1,0 +1,104 @@
+"""Own states of tasks, and the postures of a task alone."""
+
+from twoandabell.base.words import is_between, is_row
+from twoandabell.book.checks import check_book
+from twoandabell.book.moves import MODES, QUEUE_WORDS, after_move, comer_state, entered, possible_moves, worked_state
+from twoandabell.errors import InvalidNumber, InvalidOperation, InvalidState, UnknownName
+
+
+def is_state(book, value):
+    """Whether the value is an own state of the book, of a task in any mode."""
+    check_book(book)
+    if not is_row(value, 2) or not is_between(value[0], 0, len(book) - 1):
+        return False
+    ticks = book.levels[value[0]].ticks
+    return value[1] is None if ticks is None else is_between(value[1], 0, ticks)
+
+
+def fresh(book, rank):
+    """The own state of a comer of this rank."""
+    check_book(book)
+    if not is_between(rank, 0, len(book.ranks) - 1):
+        raise InvalidNumber(rank)
+    return comer_state(book, rank)
+
+
+def worked(book, state):
+    """The own state behind a tick of work."""
+    _check_state(book, state)
+    if state[1] == 0:
+        raise InvalidState("nothing is left to work")
+    return worked_state(state)
+
+
+def moved(book, word, state):
+    """The pair of the own state and the place with which a task enters by the entry with this word."""
+    check_book(book)
+    if word not in QUEUE_WORDS:
+        raise UnknownName(word)
+    _check_state(book, state)
+    return entered(book, word, state)
+
+
+def moves_alone(book, posture):
+    """The ascending tuple of the moves that are possible."""
+    _check_posture(book, posture)
+    return possible_moves(book, posture)
+
+
+def posture_after(book, posture, move):
+    """The next posture."""
+    _check_posture(book, posture)
+    if move not in possible_moves(book, posture):
+        raise InvalidOperation("this move is not possible")
+    behind, _ = after_move(book, posture, move)
+    return behind
+
+
+def postures(book):
+    """The ascending tuple of all postures to which moves lead from those of comers."""
+    check_book(book)
+    # At one level all left numbers are `None`, or none of them is, so postures can be sorted.
+    return tuple(sorted(_shortest_ways(book)))
+
+
+def way_to(book, posture):
+    """A pair of a rank and the moves, as few as possible, that lead from its comer to the posture."""
+    _check_posture(book, posture)
+    ways = _shortest_ways(book)
+    if posture not in ways:
+        raise InvalidState("no moves lead to this posture")
+    return ways[posture]
+
+
+def _check_state(book, state):
+    if not is_state(book, state):
+        raise InvalidState("this is no own state of the book")
+
+
+def _check_posture(book, posture):
+    """Raise an error unless the book is one, and the posture has the form of one."""
+    check_book(book)
+    if not is_row(posture, 3) or posture[0] not in MODES or not is_state(book, posture[1:]):
+        raise InvalidState("this is no posture by the book")
+    if posture[0] != "asleep" and posture[2] == 0:
+        raise InvalidState("only a task that is asleep can have nothing left")
+
+
+def _shortest_ways(book):
+    """A dict from each posture that is reached to one of its shortest ways."""
+    ways = {}
+    for rank in range(len(book.ranks)):
+        ways.setdefault(("ready", *comer_state(book, rank)), (rank, ()))
+    layer = list(ways)
+    while layer:
+        found = []
+        for posture in layer:
+            rank, moves = ways[posture]
+            for move in possible_moves(book, posture):
+                behind, _ = after_move(book, posture, move)
+                if behind not in ways:
+                    ways[behind] = (rank, (*moves, move))
+                    found.append(behind)
+        layer = found
+    return ways

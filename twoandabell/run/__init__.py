@@ -1,0 +1,1 @@
+"""Queues, and loads that are done by a book."""

@@ -1,0 +1,125 @@
+"""Loads, their charts and pictures, and where two books part."""
+
+from twoandabell.base.words import is_between, is_number, is_row, is_word
+from twoandabell.book.checks import check_book, check_books
+from twoandabell.errors import InvalidLoad, InvalidNumber, Stopped
+from twoandabell.run.machines import Machine
+
+MAX_LOAD = 400
+MAX_COMINGS = 20
+MAX_TASKS = 60
+
+
+def is_load(value):
+    """Whether the value has the form of a load, possible for a book or not."""
+    if not isinstance(value, tuple) or len(value) > MAX_LOAD:
+        return False
+    return all([_is_tick(tick) for tick in value]) and _many_comers(value) <= MAX_TASKS
+
+
+def chart(book, load):
+    """The tuple that tells for each tick of a load which task works, `None` if it is idle, and `"bell"` for a bell."""
+    check_book(book)
+    _check_load(load)
+    machine = Machine(book)
+    told = []
+    for index, tick in enumerate(load):
+        told.append(_done(machine, index, tick))
+    return tuple(told)
+
+
+def pictures(book, load):
+    """A generator of what each task that has come is at, behind each tick of a load."""
+    check_book(book)
+    _check_load(load)
+    machine = Machine(book)
+    for index, tick in enumerate(load):
+        _done(machine, index, tick)
+        yield machine.all_postures()
+
+
+def first_parted(book, other, load):
+    """The index of the tick of a load at which two books part, or `None`."""
+    check_books(book, other)
+    _check_load(load)
+    one, two = Machine(book), Machine(other)
+    for index, tick in enumerate(load):
+        if _done(one, index, tick) != _done(two, index, tick):
+            return index
+    return None
+
+
+def is_parting(book, other, value):
+    """Whether the value is a load at whose last tick two books part."""
+    check_books(book, other)
+    if not is_load(value):
+        return False
+    try:
+        index = first_parted(book, other, value)
+    except Stopped:
+        return False
+    return index == len(value) - 1
+
+
+def without_task(load, task):
+    """The load without the comings of a task; greater numbers of tasks are less by one."""
+    _check_load(load)
+    if not is_between(task, 0, _many_comers(load) - 1):
+        raise InvalidNumber(task)
+    ticks = []
+    come = 0
+    for comings, word in load:
+        ticks.append((_comings_without(comings, task, come), word))
+        come += _many_in(comings)
+    return tuple(ticks)
+
+
+def _is_tick(value):
+    return is_row(value, 2) and _are_comings(value[0]) and is_word(value[1])
+
+
+def _are_comings(value):
+    if not isinstance(value, tuple) or len(value) > MAX_COMINGS:
+        return False
+    return all([_is_coming(coming) for coming in value])
+
+
+def _is_coming(value):
+    return is_row(value, 2) and value[0] in ("come", "wake") and is_number(value[1])
+
+
+def _many_comers(load):
+    return sum([_many_in(comings) for comings, _ in load])
+
+
+def _many_in(comings):
+    """The number of the comers among some comings."""
+    return len([word for word, _ in comings if word == "come"])
+
+
+def _check_load(load):
+    if not is_load(load):
+        raise InvalidLoad("this has not the form of a load")
+
+
+def _done(machine, index, tick):
+    """Do the tick with this index of a load, and return what the chart tells of it."""
+    comings, word = tick
+    for coming in comings:
+        if not machine.is_possible(coming):
+            raise Stopped(index)
+        machine.let_in(coming)
+    return machine.do_tick(word)
+
+
+def _comings_without(comings, task, come):
+    """The comings of a tick ahead of which so many tasks have come, without those of this task."""
+    kept = []
+    for word, number in comings:
+        if word == "come":
+            if come != task:
+                kept.append((word, number))
+            come += 1
+        elif number != task:
+            kept.append((word, number - 1 if number > task else number))
+    return tuple(kept)

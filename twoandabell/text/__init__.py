@@ -1,0 +1,1 @@
+"""Texts, and how they are read."""
