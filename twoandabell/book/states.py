@@ -15,6 +15,13 @@ def is_state(book, value):
     return value[1] is None if ticks is None else is_between(value[1], 0, ticks)
 
 
+def is_posture(book, value):
+    """Whether the value has the form of a posture; only a task that is asleep can have nothing left."""
+    if not is_row(value, 3) or value[0] not in MODES or not is_state(book, value[1:]):
+        return False
+    return value[0] == "asleep" or value[2] != 0
+
+
 def fresh(book, rank):
     """The own state of a comer of this rank."""
     check_book(book)
@@ -79,10 +86,8 @@ def _check_state(book, state):
 def _check_posture(book, posture):
     """Raise an error unless the book is one, and the posture has the form of one."""
     check_book(book)
-    if not is_row(posture, 3) or posture[0] not in MODES or not is_state(book, posture[1:]):
+    if not is_posture(book, posture):
         raise InvalidState("this is no posture by the book")
-    if posture[0] != "asleep" and posture[2] == 0:
-        raise InvalidState("only a task that is asleep can have nothing left")
 
 
 def _shortest_ways(book):
@@ -92,13 +97,18 @@ def _shortest_ways(book):
         ways.setdefault(("ready", *comer_state(book, rank)), (rank, ()))
     layer = list(ways)
     while layer:
-        found = []
-        for posture in layer:
-            rank, moves = ways[posture]
-            for move in possible_moves(book, posture):
-                behind, _ = after_move(book, posture, move)
-                if behind not in ways:
-                    ways[behind] = (rank, (*moves, move))
-                    found.append(behind)
-        layer = found
+        layer = _next_layer(book, layer, ways)
     return ways
+
+
+def _next_layer(book, layer, ways):
+    """Tell the ways of the postures one move behind those of a layer that had none, and return these postures."""
+    found = []
+    for posture in layer:
+        rank, moves = ways[posture]
+        for move in possible_moves(book, posture):
+            behind, _ = after_move(book, posture, move)
+            if behind not in ways:
+                ways[behind] = (rank, (*moves, move))
+                found.append(behind)
+    return found
