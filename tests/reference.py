@@ -137,3 +137,114 @@ def some_load(source, book, ticks, tasks):
         load.append((tuple(comings), word))
         assert scheduler.tick(*load[-1]) != "stopped"
     return tuple(load)
+
+
+def some_pair(source, ranks=None):
+    """Two books with equal numbers of ranks, that differ in some entries, or in everything."""
+    book = some_book(source, ranks)
+    if source.random() < 0.2:
+        return book, some_book(source, len(book.ranks))
+    other = book
+    for _ in range(source.choice((1, 1, 1, 2, 3))):
+        key = source.choice(book.entries())
+        other = other.with_entry(*key, source.choice(book.values_for(*key)))
+    return book, other
+
+
+def some_full_book(source, ranks=(0, 1, 2)):
+    """A book of three levels with slices of three, which has as many stands as any."""
+    made = []
+    for index in range(3):
+        made.append(Level(
+            3, used=(source.randrange(3), source.choice(("front", "back"))), takes=source.randint(0, index),
+            **{word: (source.randrange(index if word == "lost" else 0, 3), source.choice(("front", "back")),
+                      source.choice(("kept", "new"))) for word in REST_WORDS}))
+    return Book(*made, ranks=ranks)
+
+
+def lost_pair(source):
+    """Two books that differ in what becomes of tasks that are taken away, which is not seldom."""
+    levels = [level.replaced("takes", index) for index, level in enumerate(some_full_book(source))]
+    book = Book(*levels, ranks=(0, 1, 2))
+    key = ("lost", source.choice((1, 2)))
+    return book, book.with_entry(*key, source.choice(book.values_for(*key)))
+
+
+def parted_loads(many, seed, ticks=25, tasks=8, pair=some_pair):
+    """So many triples of two books and a load at whose last tick they part."""
+    source, found = random.Random(seed), []
+    while len(found) < many:
+        book, other = pair(source)
+        load = some_load(source, book, source.randint(2, ticks), tasks)
+        one, two = told(book, load)[0], told(other, load)[0]
+        apart = [index for index in range(min(len(one), len(two))) if one[index] != two[index]]
+        if apart:
+            found.append((book, other, load[:apart[0] + 1]))
+    return found
+
+
+def scheduler_at(book, stand):
+    """A scheduler with two tasks that have come to a stand; one that is away stands for itself alone."""
+    scheduler = Scheduler(book)
+    for number, part in enumerate(stand[:2]):
+        task = Task(None, None)
+        task.mode = part[0]
+        if len(part) == 3:
+            task.level, task.left = part[1:]
+        scheduler.tasks.append(task)
+        if task.mode == "ready":
+            scheduler.rows[task.level].append(number)
+    if stand[2] == 1:
+        level = stand[0][1]
+        scheduler.rows[level] = [1, 0]
+    return scheduler
+
+
+def stand_in(scheduler, one=0, two=1):
+    """The stand of two tasks of a scheduler, of which tasks that have not come yet are away."""
+    parts, ahead = [], None
+    for number in (one, two):
+        task = scheduler.tasks[number] if number < len(scheduler.tasks) else None
+        away = task is None or task.mode == "away"
+        parts.append(("away",) if away else task.picture())
+    for row in scheduler.rows.values():
+        if one in row and two in row:
+            ahead = 0 if row.index(one) < row.index(two) else 1
+    return (*parts, ahead)
+
+
+def moved(book, stand, move):
+    """The stand behind a move, by a scheduler; `None` if nobody would work in a tick."""
+    scheduler = scheduler_at(book, stand)
+    if move[0] == "come":
+        task = scheduler.tasks[move[1]]
+        task.level = book["come", move[2]]
+        scheduler.put(move[1], task.level, "back", "new")
+    elif move[0] == "wake":
+        scheduler.enter_by(move[1], "wake")
+    elif scheduler.tick((), move[-1]) is None:
+        return None
+    return stand_in(scheduler)
+
+
+def parts_by_form(book):
+    """What a stand can tell of a task by the form alone."""
+    parts = [("away",), ("ended",)]
+    for level in range(len(book)):
+        ticks = book["ticks", level]
+        lefts = [None] if ticks is None else list(range(ticks + 1))
+        parts += [(mode, level, left) for mode in ("asleep", "ready", "runs") for left in lefts
+                  if mode == "asleep" or left != 0]
+    return sorted(parts)
+
+
+def stands_by_form(book):
+    """The ascending list of all stands of a book by the form alone."""
+    found = []
+    for one in parts_by_form(book):
+        for two in parts_by_form(book):
+            if one[0] == two[0] == "ready" and one[1] == two[1]:
+                found += [(one, two, 0), (one, two, 1)]
+            elif not one[0] == two[0] == "runs":
+                found.append((one, two, None))
+    return found

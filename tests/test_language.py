@@ -36,6 +36,10 @@ INTERFACE = {
     "book.states": "is_state fresh worked moved moves_alone posture_after postures way_to",
     "run.queues": "Queues",
     "run.loads": "is_load chart pictures first_parted is_parting without_task",
+    "run.processors": "Processor",
+    "pair.cuts": "two_of cut kept_ticks",
+    "pair.stands": "is_stand moves_at worker_at stand_after exchanged stand_of load_of",
+    "pair.joints": "Reach alike parting_load paper is_table is_paper",
 }
 METHODS = {
     ("book.books", "Level"): "ticks used wake way lost takes __getitem__ __contains__ replaced plain __eq__ __str__",
@@ -43,6 +47,10 @@ METHODS = {
                              "values_for __sub__ __eq__ __str__"),
     ("run.queues", "Queues"): ("enter leave pick __getitem__ tasks __len__ __bool__ __contains__ level_of best "
                                "is_ahead twin __eq__ __str__"),
+    ("run.processors", "Processor"): ("come wake_up tick bell do book picture runner next_one chart done __len__ "
+                                      "__getitem__ __contains__ queues log undo redo trial during twin __iadd__ "
+                                      "__eq__ __str__"),
+    ("pair.joints", "Reach"): "joints parted table __len__ __contains__ __getitem__ layer",
 }
 
 

@@ -32,7 +32,7 @@ class Machine:
 
     def do_tick(self, word):
         """Do a tick behind its comings, and return what a chart tells of it."""
-        if self._is_taken_away(word):
+        if self.lost_by(word) is not None:
             self._move(self._runner, "lost")
             self._runner = None
         if word == "bell":
@@ -46,16 +46,44 @@ class Machine:
         """The tuple of what each task that has come is at: its posture, or that it has ended."""
         return tuple(self._postures)
 
-    def _is_taken_away(self, word):
-        """Whether a task runs, and a tick with this word takes it away."""
+    def order(self):
+        """The tuple of the ready tasks, the best level first."""
+        return self._queues.tasks()
+
+    def queues(self):
+        """The queues of the ready tasks, which are those of the caller."""
+        return self._queues.twin()
+
+    def running(self):
+        """The task that runs, or `None`."""
+        return self._runner
+
+    def lost_by(self, word):
+        """The task that runs, if a tick with this word takes it away, and otherwise `None`."""
         if self._runner is None:
-            return False
+            return None
         level = self._postures[self._runner][1]
         takes = self._book.levels[level].takes
         if word == "bell":
-            return takes >= 1
+            return self._runner if takes >= 1 else None
         best = self._queues.best
-        return best is not None and best < takes
+        return self._runner if best is not None and best < takes else None
+
+    def worker(self):
+        """The task that would work in a tick now, or `None`."""
+        if self._runner is not None and self.lost_by("on") is None:
+            return self._runner
+        # Who is taken away enters at a level behind that of the best ready task, which so stays the best one.
+        order = self._queues.tasks()
+        return order[0] if order else None
+
+    def twin(self):
+        """An independent copy."""
+        copied = Machine(self._book)
+        copied._postures = list(self._postures)
+        copied._queues = self._queues.twin()
+        copied._runner = self._runner
+        return copied
 
     def _work(self, task, word):
         """Let a task that is in no queue work a tick, and do what the word tells."""

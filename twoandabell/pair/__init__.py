@@ -1,0 +1,1 @@
+"""Two tasks among any number of others."""
