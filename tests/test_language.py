@@ -40,6 +40,9 @@ INTERFACE = {
     "pair.cuts": "two_of cut kept_ticks",
     "pair.stands": "is_stand moves_at worker_at stand_after exchanged stand_of load_of",
     "pair.joints": "Reach alike parting_load paper is_table is_paper",
+    "change.entries": "matters idle_keys entry_paper is_entry_paper are_free",
+    "change.levels": "reached counts trimmed without joined join_paper",
+    "waits.lives": "doors first_stands steps_from most_work life_paper is_life_paper",
 }
 METHODS = {
     ("book.books", "Level"): "ticks used wake way lost takes __getitem__ __contains__ replaced plain __eq__ __str__",
@@ -168,8 +171,8 @@ class Trees(unittest.TestCase):
                 else:
                     names.append(node.name)
             self.assertEqual(len(names), len(set(names)), module)
-            inner = [name for node in functions(tree) for name in [arg.arg for arg in ast.walk(node) if isinstance(
-                arg, ast.arg)]]
+            inner = [name for node in functions(tree) for row in node.body for name in bound_names(row)]
+            inner += [arg.arg for node in functions(tree) for arg in ast.walk(node) if isinstance(arg, ast.arg)]
             own = [node.name for node in tree.body if isinstance(node, ast.ClassDef)]
             own += [alias.name for node in tree.body if isinstance(node, ast.ImportFrom) for alias in node.names]
             self.assertFalse(set(inner) & set(own), module)
@@ -180,14 +183,34 @@ class Trees(unittest.TestCase):
             own = set(bound_names(tree))
             for name in own:
                 self.assertNotIn(name, every, module)
-                self.assertNotIn(name, BARRED_NAMES, module)
+                # A parameter may be called so, a method or an attribute may not.
+                self.assertNotIn(name, BARRED_NAMES - {"keys"}, module)
                 self.assertTrue(name in DUNDERS or not name.startswith("__"), module)
             for node in ast.walk(tree):
                 if isinstance(node, ast.Name) and node.id in every:
                     self.assertIn(node.id, ALLOWED_BUILTINS, module)
+                if isinstance(node, ast.FunctionDef):
+                    self.assertNotIn(node.name, BARRED_NAMES, module)
                 if isinstance(node, ast.Attribute):
                     self.assertNotIn(node.attr, BARRED_NAMES, module)
                     self.assertTrue(node.attr == "__init__" or not node.attr.startswith("__"), module)
+
+    def test_stars_of_calls(self):
+        for module, tree in trees().items():
+            for node in [call for call in ast.walk(tree) if isinstance(call, ast.Call)]:
+                starred = [value for value in node.args if isinstance(value, ast.Starred)]
+                for value in starred:
+                    self.assertIsInstance(value.value, (ast.Name, ast.List, ast.Tuple), (module, node.lineno))
+                if starred:
+                    for value in node.args[node.args.index(starred[0]) + 1:]:
+                        self.assertIsInstance(value, (ast.Name, ast.Constant, ast.Starred), (module, node.lineno))
+
+    def test_what_is_sorted(self):
+        for module, tree in trees().items():
+            for node in [call for call in ast.walk(tree) if isinstance(call, ast.Call)]:
+                if isinstance(node.func, ast.Name) and node.func.id in ("set", "frozenset"):
+                    self.assertTrue(any(node in other.args for other in ast.walk(tree) if isinstance(
+                        other, ast.Call) and isinstance(other.func, ast.Name) and other.func.id in ("sorted", "len")))
 
     def test_decorators(self):
         for module, tree in trees().items():

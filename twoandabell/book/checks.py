@@ -16,3 +16,9 @@ def check_books(book, other):
     check_book(other)
     if len(book.ranks) != len(other.ranks):
         raise InvalidBook("the books have other numbers of ranks")
+
+
+def entry_at(book, key):
+    """The entry of a book with a key; raise an error unless the values are a book and the key of an entry."""
+    check_book(book)
+    return book[key]

@@ -1,0 +1,1 @@
+"""What changes of a book change."""

@@ -1,0 +1,1 @@
+"""How long tasks wait."""
