@@ -1,7 +1,10 @@
 """[0.7] and stage 2: class Book."""
 
+import random
+import timeit
 import unittest
 
+from tests.reference import some_book
 from tests.samples import BOOKS, FEED, FORTY_ONE, HUNDRED, LATE, ONE, OTHERS, WIDE, entry_values
 from twoandabell.book.books import Book, Level
 from twoandabell.errors import InvalidBook, InvalidNumber, InvalidOperation, UnknownName
@@ -226,6 +229,27 @@ class Changing(unittest.TestCase):
         self.assertEqual(other - FEED, (("come", 1), ("ticks", 1), ("way", 0)))
         self.assertEqual(
             Book(ZERO, FIRST, ranks=(1, 0)) - FEED, (("come", 0), ("come", 1), ("used", 0), ("wake", 1)))
+
+    def test_differences_of_many_books(self):
+        source = random.Random("differences")
+        for _ in range(300):
+            book = some_book(source)
+            other = book
+            for _ in range(source.choice((0, 1, 2, 5, 30))):
+                key = source.choice(book.entries())
+                other = other.with_entry(*key, source.choice(book.values_for(*key)))
+            right = tuple(key for key in book.entries() if book[key] != other[key])
+            self.assertEqual(book - other, right)
+            self.assertEqual(other - book, right)
+            again = Book(*[level.replaced("ticks", level.ticks) for level in book], ranks=tuple(list(book.ranks)))
+            self.assertEqual(again - other, right)
+
+    def test_differences_do_not_take_longer_than_changes(self):
+        wide = Book(Level.plain(0, 2), Level.plain(1, 2), Level.plain(2), ranks=(0, 1, 2))
+        again = Book(*wide.levels, ranks=(0, 0, 0))
+        change = min(timeit.repeat(lambda: wide.with_entry("used", 1, (2, "back")), number=500, repeat=7))
+        for other in (again, WIDE, wide.with_entry("used", 1, (2, "back"))):
+            self.assertLess(min(timeit.repeat(lambda: wide - other, number=500, repeat=7)), change)
 
     def test_differences_of_what_is_no_such_book(self):
         fewer = Book.of(FEED.levels, (0,))

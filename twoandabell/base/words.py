@@ -9,10 +9,11 @@ MAX_SLICE = 3
 # The least integer with more than forty digits.
 NUMBER_LIMIT = 10 ** 40
 
-# These three are ascending, for tuples of values and of keys are built from them in this order.
+# These four are ascending, for tuples of values and of keys are built from them in this order.
 PLACES = ("back", "front")
 RESTS = ("kept", "new")
 ENTRY_WORDS = ("come", "lost", "takes", "ticks", "used", "wake", "way")
+ASCENDING_LEVEL_WORDS = ("lost", "takes", "ticks", "used", "wake", "way")
 
 TICK_WORDS = ("on", "sleep", "way", "end", "bell")
 

@@ -1,7 +1,7 @@
 """Levels and books."""
 
-from twoandabell.base.words import ENTRY_WORDS, LEVEL_WORDS, MAX_LEVELS, MAX_RANKS, MAX_SLICE, PLACES, RESTS
-from twoandabell.base.words import is_between, is_entry, is_row
+from twoandabell.base.words import ASCENDING_LEVEL_WORDS, ENTRY_WORDS, LEVEL_WORDS, MAX_LEVELS, MAX_RANKS, MAX_SLICE
+from twoandabell.base.words import PLACES, RESTS, is_between, is_entry, is_row
 from twoandabell.errors import InvalidBook, InvalidLevel, InvalidNumber, InvalidOperation, UnknownName
 
 
@@ -163,7 +163,14 @@ class Book:
             raise InvalidOperation("this is no book")
         if len(self._levels) != len(other._levels) or len(self._ranks) != len(other._ranks):
             raise InvalidOperation("the books have other numbers of levels or ranks")
-        return tuple([key for key in self.entries() if self[key] != other[key]])
+        found = []
+        if self._ranks != other._ranks:
+            found = [("come", rank) for rank, level in enumerate(self._ranks) if level != other._ranks[rank]]
+        # Most levels are the same in both books: only in the others each entry needs to be looked at.
+        changed = [index for index, level in enumerate(self._levels) if level._entries != other._levels[index]._entries]
+        if changed:
+            found = found + _level_differences(self._levels, other._levels, changed)
+        return tuple(found)
 
     def __eq__(self, other):
         return isinstance(other, Book) and self._levels == other._levels and self._ranks == other._ranks
@@ -180,6 +187,12 @@ class Book:
             raise UnknownName(word)
         if not is_between(index, 0, self._many(word) - 1):
             raise InvalidNumber(index)
+
+
+def _level_differences(levels, others, changed):
+    """The ascending list of the keys of the entries in which some levels differ, given by their numbers."""
+    pairs = [(index, levels[index]._entries, others[index]._entries) for index in changed]
+    return [(word, index) for word in ASCENDING_LEVEL_WORDS for index, one, two in pairs if one[word] != two[word]]
 
 
 def _entry_text(word, value):
