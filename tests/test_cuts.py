@@ -62,6 +62,14 @@ class Examples(unittest.TestCase):
         self.assertEqual(cut(awake, late, load), (
             load[0], load[1], ((("wake", 1), ("wake", 0)), "on"), ((), "bell"), ((), "on")))
 
+    def test_a_tick_in_which_one_of_the_books_alone_takes_one_away(self):
+        # By the other book the first one has used up its slice, and is ready when the third one comes.
+        other = LATE.with_entry("ticks", 1, 1).with_entry("used", 1, (1, "front"))
+        for one, two, pair in ((LATE, other, (1, 0)), (other, LATE, (0, 1))):
+            self.assertEqual([function(one, two, LOAD) for function in FUNCTIONS],
+                             [pair, (LOAD[0], ((), "bell"), ((), "on")), (0, 1, 2)])
+            self.assertTrue(is_parting(one, two, cut(one, two, LOAD)))
+
     def test_bells_stay(self):
         load = (((), "bell"), ((), "on"), ((("come", 0),), "bell"), ((), "end"), ((), "bell")) + LOAD
         self.assertEqual(kept_ticks(FEED, LATE, load), (0, 2, 4, 5, 6, 7))

@@ -2,6 +2,7 @@
 
 import random
 import unittest
+from unittest.mock import patch
 
 from tests.reference import lost_pair, parted_loads, some_book, some_full_book, some_pair, stands_by_form
 from tests.samples import BOOKS, FEED, FORTY, FORTY_ONE, LATE, LOAD, ONE, OTHERS, WIDE
@@ -236,6 +237,30 @@ class AlikeOrParting(unittest.TestCase):
             self.assertIs(alike(other, book), load is None)
         self.assertGreater(alike_ones, 10)
 
+    def test_it_ends_at_a_nearest_parted_joint_stand(self):
+        far = 0
+        for book, other in (*PAIRS, *some_pairs(40, "nearest")):
+            reach, load = Reach(book, other), parting_load(book, other)
+            if load is not None:
+                parted = [joint for joint in reach.layer(len(load) - 1) if joint in reach.parted]
+                self.assertTrue(parted)
+                for many in range(len(load) - 1):
+                    self.assertFalse([joint for joint in reach.layer(many) if joint in reach.parted])
+                far += len(parted) < len(reach.parted)
+        self.assertGreater(far, 10)
+
+    def test_loads_that_would_be_too_long(self):
+        # No books are known that need so many ticks, so the limit is made a small one.
+        with patch("twoandabell.pair.walks.MAX_LOAD", 2):
+            for function in (parting_load, paper):
+                with self.assertRaises(TooMany) as caught:
+                    function(FEED, LATE)
+                self.assertEqual(caught.exception.limit, 2)
+            self.assertIs(alike(FEED, LATE), False)
+            self.assertEqual(len(Reach(FEED, LATE)), 81)
+        with patch("twoandabell.pair.walks.MAX_LOAD", 3):
+            self.assertEqual(len(parting_load(FEED, LATE)), 3)
+
     def test_no_load_of_many_tasks_is_shorter(self):
         for book, other, load in (*parted_loads(60, "short"), *parted_loads(40, "lost ones", 40, 6, lost_pair)):
             try:
@@ -321,6 +346,33 @@ class Tables(unittest.TestCase):
             joint = (stand, (*stand[:2], 1 - stand[2]))
             self.assertIs(is_table(FEED, FEED, tuple(sorted({*table, joint}))), False)
 
+    def test_closed_but_not_joint(self):
+        # Who comes and who wakes comes to the same, so as many moves lead to the same stands.
+        book = Book(ONE.levels[0], ranks=(0,))
+        table = Reach(book, book).table
+        ended, away, asleep = ("ended",), ("away",), ("asleep", 0, 0)
+        for one, two in (((ended, away, None), (ended, asleep, None)), ((away, ended, None), (asleep, ended, None))):
+            for joint in ((one, two), (two, one)):
+                self.assertIs(is_table(book, book, tuple(sorted([*table, joint]))), False)
+
+    def test_one_put_in_whose_second_half_is_no_stand(self):
+        wide = Book(*FEED.levels, Level.plain(2), ranks=(0, 1))
+        third = (("ready", 2, None), ("ended",), None)
+        table = Reach(wide, wide).table
+        closed = {*table, (third, third)}
+        while True:
+            more = {behind for joint in closed for _, _, behind in steps(wide, wide, joint)} - closed
+            if not more:
+                break
+            closed |= more
+        self.assertIs(is_table(wide, wide, tuple(sorted(closed))), True)
+        for book, other in ((wide, FEED), (FEED, wide), (FEED, FEED)):
+            self.assertIs(is_table(book, other, tuple(sorted(closed))), False)
+        for half in (None, 0, [], (), FIRST[:2], list(FIRST), (("away",), ["away"], None)):
+            for joint in ((FIRST, half), (half, FIRST)):
+                self.assertIs(is_table(wide, wide, (joint,)), False)
+                self.assertIs(is_table(wide, wide, (*table, joint)), False)
+
     def test_one_put_in_that_is_not_joint(self):
         table = Reach(ONE, ONE).table
         for one in stands_by_form(ONE):
@@ -380,7 +432,8 @@ class Papers(unittest.TestCase):
                       ("parting", ()), ("parting", LOAD), ("parting", None), (None, None), ("idle", table), FEED):
             self.assertIs(is_paper(ONE, CALM, value), False)
         for value in (("parting", LOAD[:2]), ("parting", LOAD + (((), "on"),)), ("parting", list(LOAD)),
-                      ("alike", LOAD), ("alike", Reach(FEED, LATE).joints), ("alike", Reach(FEED, FEED).table)):
+                      ("alike", LOAD), ("alike", Reach(FEED, LATE).joints), ("alike", Reach(FEED, FEED).table),
+                      ("Parting", LOAD), (None, LOAD), ("works", LOAD), (LOAD, LOAD), (["parting"], LOAD)):
             self.assertIs(is_paper(FEED, LATE, value), False)
         self.assertIs(is_paper(FEED, FEED, ("parting", LOAD)), False)
 

@@ -376,6 +376,28 @@ class Papers(unittest.TestCase):
         self.assert_refused(FEED, 1, "back", False, ("endless", (("ready", False, 1), ()), (("way",),)))
         self.assert_refused(FEED, 1, "back", False, ("endless", (("ready", 0, True), ()), (("way",),)))
 
+    def test_a_life_begins_at_a_first_side_stand(self):
+        # Without end, from each side stand on a ring; those that are no first ones begin no life.
+        rings = 0
+        for book, level, place, runs in all_doors()[::2]:
+            firsts = first_stands(book, level, place, runs=runs)
+            for stand in side_stands(book, level):
+                for step, behind in steps_from(book, level, stand).items():
+                    back = [last for last, end in steps_from(book, level, behind).items() if end == stand]
+                    for last in back:
+                        if step in WORK or last in WORK:
+                            paper = ("endless", (stand, ()), (step, last))
+                            self.assertIs(is_life_paper(book, level, place, paper, runs=runs), stand in firsts)
+                            rings += stand not in firsts
+        self.assertGreater(rings, 100)
+
+    def test_steps_of_other_kinds(self):
+        word, life, table = life_paper(BOUND, 1, "back")
+        for step in (*OTHERS, ([], 0), ({}, 0), ("wake", 0), ("on", 0), (["come"], 0), ("come", []), ("come", {}),
+                     ("come",), ("come", 0, 0), ("come", FORTY), ["on"], "on", ("lost",), ("used",), ([],), FEED):
+            for steps in ((step,), (("on",), step)):
+                self.assert_refused(BOUND, 1, "back", False, (word, (life[0], steps), table))
+
     def test_a_ring_without_work_is_none(self):
         self.assert_refused(FEED, 1, "back", False, ("endless", (("ready", 0, 1), ()), ()))
 

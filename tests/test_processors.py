@@ -260,6 +260,16 @@ class Objects(unittest.TestCase):
             self.assertFalse(one == value)
             self.assertTrue(one != value)
 
+    def test_equal_orders_with_other_pictures(self):
+        made = []
+        for word in ("sleep", "end", "on"):
+            processor = with_comings(FEED, 1, 1)
+            processor.tick(word)
+            self.assertEqual(processor.queues().tasks(), (1,))
+            made.append(processor)
+        for at, one in enumerate(made):
+            self.assertEqual([one == other for other in made], [at == index for index in range(3)])
+
     def test_equal_pictures_in_another_order(self):
         book = FEED.with_entry("wake", 0, (0, "front", "new"))
         load = (((("come", 0), ("come", 0)), "sleep"), ((), "sleep"))

@@ -36,8 +36,8 @@ def trimmed(book):
     """The book without the levels that are not reached, as far as it stays alike to what it was."""
     kept = list(reached(book))
     takes = [book.levels[level].takes for level in kept]
-    # A bell takes tasks away where `takes` is at least 1, so it must not become 0.
-    if 0 not in kept and not all([many == 0 or kept[0] < many for many in takes]):
+    # A bell takes tasks away where `takes` is at least 1, so it must not become 0; with level 0 it does not.
+    if not all([many == 0 or kept[0] < many for many in takes]):
         kept = [0, *kept]
     return _with_levels(book, kept)
 
@@ -45,7 +45,8 @@ def trimmed(book):
 def without(book, level):
     """The book without a level; what names it names its own level instead."""
     _check_level(book, level, 0)
-    if len(book) == 1 or level in book.ranks:
+    # The only level of a book is that of its ranks, too.
+    if level in book.ranks:
         raise InvalidOperation("this level can't be left out")
     return _with_levels(book, [index for index in range(len(book)) if index != level])
 

@@ -16,14 +16,16 @@ def cut(book, other, load):
     _check_parting(book, other, load)
     told, told_too = _told(book, load), _told(other, load)
     two = _last_two(told, told_too)
-    kept = _kept(load, told, told_too)
+    kept = _kept(told, told_too)
     ticks = []
     # The comings of the two that go to the next tick that stays.
     waiting = []
     for index, comings in enumerate(_comings_of(load, two)):
         waiting.extend(comings)
         if index in kept:
-            ticks.append((tuple(waiting), _word_in_cut(load, index, told, two)))
+            # A tick that stays though neither of the two works in it is a bell, or takes one of them away.
+            word = load[index][1] if told[index][0] in two else "bell"
+            ticks.append((tuple(waiting), word))
             waiting = []
     return tuple(ticks)
 
@@ -31,7 +33,7 @@ def cut(book, other, load):
 def kept_ticks(book, other, load):
     """The ascending tuple of the indices of the ticks from which those of the cut come."""
     _check_parting(book, other, load)
-    return tuple(_kept(load, _told(book, load), _told(other, load)))
+    return tuple(_kept(_told(book, load), _told(other, load)))
 
 
 def _check_parting(book, other, load):
@@ -55,22 +57,15 @@ def _last_two(told, told_too):
     return (told[-1][0], told_too[-1][0])
 
 
-def _kept(load, told, told_too):
+def _kept(told, told_too):
     """The ascending list of the indices of the ticks that stay."""
     two = _last_two(told, told_too)
     found = []
     for index, (worker, lost) in enumerate(told):
-        is_bell = load[index][1] == "bell"
-        if is_bell or worker in two or lost in two or told_too[index][1] in two or index == len(load) - 1:
+        # The last tick stays, for one of the two works in it.
+        if worker == "bell" or worker in two or lost in two or told_too[index][1] in two:
             found.append(index)
     return found
-
-
-def _word_in_cut(load, index, told, two):
-    """The word of a tick that stays: where another task works that takes one of the two away, it becomes a bell."""
-    if index < len(load) - 1 and told[index][0] not in two:
-        return "bell"
-    return load[index][1]
 
 
 def _comings_of(load, two):
