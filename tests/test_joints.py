@@ -6,11 +6,13 @@ from unittest.mock import patch
 
 from tests.reference import lost_pair, parted_loads, some_book, some_full_book, some_pair, stands_by_form
 from tests.samples import BOOKS, FEED, FORTY, FORTY_ONE, LATE, LOAD, ONE, OTHERS, WIDE
+from twoandabell.book.alone import Alone
 from twoandabell.book.books import Book, Level
 from twoandabell.errors import InvalidBook, InvalidNumber, InvalidStand, TooMany
 from twoandabell.pair import joints
+from twoandabell.pair.bounds import are_at_most
 from twoandabell.pair.cuts import cut
-from twoandabell.pair.graphs import Graph
+from twoandabell.pair.graphs import BITS, FIRST_STAND, MASK, Graph, number_of_stand
 from twoandabell.pair.joints import Reach, alike, is_paper, is_table, paper, parting_load
 from twoandabell.pair.stands import FIRST, exchanged, is_stand, load_of, moves_at, stand_after, worker_at
 from twoandabell.pair.walks import Walk
@@ -459,10 +461,56 @@ class Quick(unittest.TestCase):
                 continue
             self.assertTrue(is_paper(book, other, found))
 
-    def test_graphs_are_what_a_book_reaches(self):
+    def test_numbers_are_ascending_as_stands_are(self):
         for book in (*BOOKS, some_book(random.Random("graph"))):
+            stands, graph = stands_by_form(book), Graph(book)
+            numbers = [number_of_stand(stand) for stand in stands]
+            self.assertEqual(numbers, sorted(set(numbers)))
+            self.assertEqual([graph.stand(number) for number in numbers], stands)
+            self.assertEqual(number_of_stand(FIRST), FIRST_STAND)
+            self.assertLessEqual(max(numbers), MASK)
+            self.assertEqual(MASK, 2 ** BITS - 1)
+
+    def test_rows_are_as_moves_of_stands(self):
+        for book in (*BOOKS, some_book(random.Random("rows"))):
             graph = Graph(book)
-            self.assertEqual(graph.stands, sorted({joint[0] for joint in all_reached(book, book)}))
+            for stand in stands_by_form(book):
+                number = number_of_stand(stand)
+                worker, comings, timed = graph.row(number)
+                self.assertEqual(worker, worker_at(book, stand))
+                moves = graph.moves_at(number)
+                self.assertEqual(tuple(sorted(moves)), moves_at(book, stand))
+                self.assertEqual([graph.stand(near) for near in (*comings, *timed)],
+                                 [stand_after(book, stand, move) for move in moves])
+
+
+class Bounds(unittest.TestCase):
+    def test_no_two_books_have_more_joint_stands(self):
+        for book, other in (*PAIRS, *some_pairs(60, "bounds")):
+            many = len(Walk(Graph(book), Graph(other), 10 ** 6).before)
+            self.assertFalse(are_at_most(Alone(book), Alone(other), many - 1))
+            self.assertTrue(are_at_most(Alone(book), Alone(other), 10 ** 6))
+
+    def test_a_walk_that_ends_early_tells_the_same(self):
+        ended = 0
+        for book, other in (*PAIRS, *some_pairs(60, "early")):
+            for limit in (10 ** 6, 20000, 300, 100, 50):
+                whole, part = [self.told(book, other, limit, whole) for whole in (True, False)]
+                self.assertEqual(whole is None, part is None)
+                if whole is not None:
+                    self.assertEqual(bool(whole.apart), bool(part.apart))
+                    self.assertEqual(len(whole.shortest_load() or ()), len(part.shortest_load() or ()))
+                    self.assertEqual(whole.reached_table(), part.reached_table())
+                    ended += len(part.before) < len(whole.before)
+        self.assertGreater(ended, 50)
+
+    def told(self, book, other, limit, whole):
+        """A walk, or `None` if it has more joint stands than the limit."""
+        try:
+            return Walk(Graph(book), Graph(other), limit, whole=whole)
+        except TooMany as error:
+            self.assertEqual(error.limit, limit)
+            return None
 
 
 if __name__ == "__main__":

@@ -205,12 +205,25 @@ class Trees(unittest.TestCase):
                     for value in node.args[node.args.index(starred[0]) + 1:]:
                         self.assertIsInstance(value, (ast.Name, ast.Constant, ast.Starred), (module, node.lineno))
 
-    def test_what_is_sorted(self):
+    def test_sets(self):
         for module, tree in trees().items():
             for node in [call for call in ast.walk(tree) if isinstance(call, ast.Call)]:
                 if isinstance(node.func, ast.Name) and node.func.id in ("set", "frozenset"):
-                    self.assertTrue(any(node in other.args for other in ast.walk(tree) if isinstance(
-                        other, ast.Call) and isinstance(other.func, ast.Name) and other.func.id in ("sorted", "len")))
+                    measured = any(node in other.args for other in ast.walk(tree) if isinstance(
+                        other, ast.Call) and isinstance(other.func, ast.Name) and other.func.id in ("sorted", "len"))
+                    self.assertTrue(measured or self.is_stored(tree, node), (module, node.lineno))
+
+    def is_stored(self, tree, made):
+        """Whether a set is assigned once to a local variable, which is only asked what is in it."""
+        for function in functions(tree):
+            names = [node.targets[0].id for node in ast.walk(function) if isinstance(node, ast.Assign)
+                     and node.value is made and isinstance(node.targets[0], ast.Name)]
+            if names:
+                uses = [node for node in ast.walk(function) if isinstance(node, ast.Name) and node.id == names[0]]
+                asked = [node.comparators[0] for node in ast.walk(function) if isinstance(node, ast.Compare)
+                         and isinstance(node.ops[0], (ast.In, ast.NotIn))]
+                return len(uses) == 1 + len([node for node in uses if node in asked])
+        return False
 
     def test_decorators(self):
         for module, tree in trees().items():

@@ -74,7 +74,7 @@ def _other_values(book, key):
 
 
 def _walk_to(graph, other):
-    return Walk(graph, Graph(other), MAX_JOINTS)
+    return Walk(graph, Graph(other), MAX_JOINTS, whole=False)
 
 
 def _is_any_apart(graph, book, key, values):

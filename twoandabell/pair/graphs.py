@@ -1,42 +1,142 @@
-"""All stands of two tasks to which moves by a book lead."""
+"""The stands of two tasks by a book, in numbers. Nothing is checked here: callers do it.
 
-from twoandabell.pair.stands import FIRST
-from twoandabell.pair.turns import Turns
+The number of a stand is made of those of its two parts (book/alone.py) and of a last bit, which is 1 if the second task
+is the one ahead at the level of both. So numbers are ascending as stands are.
+"""
+
+from twoandabell.book.alone import AWAY, ENDED, READY, RUNS, Alone, number_of
+
+# The number of the first stand, at which both are away.
+FIRST_STAND = 1560
+# How many bits a number has, and the greatest number of so many.
+BITS = 13
+MASK = 8191
+
+BELL = ("bell",)
+# Ascending, as moves are told.
+TICKS = (("tick", "end"), ("tick", "on"), ("tick", "sleep"), ("tick", "way"))
 
 
 class Graph:
-    """The stands to which moves by a book lead from the first one, numbered ascending; it never changes.
+    """What leads from each stand of two tasks, of any ranks or of some; each row is told when it is first asked for.
 
-    Each list has an item for each stand, by its number: `stands` itself, `workers` the task that would work in a tick
-    now, `comings` the numbers of the stands behind its comings and wakings, `timed` of those behind its bell and ticks,
-    in the order in which `comings_at` and `timed_at` of `turns` tell these moves, and `bells` of that behind its bell.
+    The row of a stand is a triple: the task that would work in a tick now, or `None`; the stands behind the comings and
+    wakings that are possible; and those behind the bell and the ticks that are possible, in the order of `moves_at`.
     """
 
-    def __init__(self, book):
-        turns = Turns(book)
-        behind = _all_behind(turns)
-        self.turns = turns
-        self.stands = sorted(list(behind))
-        self.numbers = {stand: number for number, stand in enumerate(self.stands)}
-        self.workers = [turns.worker_at(stand) for stand in self.stands]
-        self.comings = [self._numbered(behind[stand][0]) for stand in self.stands]
-        self.timed = [self._numbered(behind[stand][1]) for stand in self.stands]
-        self.bells = [numbers[:1] for numbers in self.timed]
+    def __init__(self, book, first=None, second=None):
+        self.alone = Alone(book)
+        every = range(len(book.ranks))
+        self._ranks = (list(every) if first is None else first, list(every) if second is None else second)
+        self.rows = {}
+        self._works = {}
+        self._words = {}
+        self._stands = {}
 
-    def _numbered(self, stands):
-        return tuple([self.numbers[stand] for stand in stands])
+    def row(self, stand):
+        """The row of a stand."""
+        found = self.rows.get(stand)
+        if found is None:
+            one, two = stand >> 7, stand >> 1 & 63
+            comings = () if one >= ENDED and two >= ENDED else self._comings(one, two)
+            worker, timed = self._timed(stand, one, two)
+            found = (worker, comings, timed)
+            self.rows[stand] = found
+        return found
+
+    def stand(self, number):
+        """The stand with this number."""
+        found = self._stands.get(number)
+        if found is None:
+            found = self._written(number)
+            self._stands[number] = found
+        return found
+
+    def comings_at(self, number):
+        """The list of the comings and wakings that are possible."""
+        parts = (number >> 7, number >> 1 & 63)
+        found = [("come", task, rank) for task in (0, 1) if parts[task] == AWAY for rank in self._ranks[task]]
+        return found + [("wake", task) for task in (0, 1) if parts[task] < AWAY]
+
+    def moves_at(self, number):
+        """The list of the moves that are possible: comings, wakings, the bell, and ticks."""
+        idle = number >> 7 < READY and number >> 1 & 63 < READY
+        return [*self.comings_at(number), BELL] if idle else [*self.comings_at(number), BELL, *TICKS]
+
+    def _comings(self, one, two):
+        """The tuple of the stands behind the comings and wakings that are possible."""
+        found = []
+        comers = self.alone.comers
+        if one == AWAY:
+            found = [_placed(0, comers[rank], "back", two) for rank in self._ranks[0]]
+        if two == AWAY:
+            found = found + [_placed(1, comers[rank], "back", one) for rank in self._ranks[1]]
+        if one < AWAY:
+            behind, place = self.alone.after(one, "wake")
+            found.append(_placed(0, behind, place, two))
+        if two < AWAY:
+            behind, place = self.alone.after(two, "wake")
+            found.append(_placed(1, behind, place, one))
+        return tuple(found)
+
+    def _timed(self, stand, one, two):
+        """The pair of who would work in a tick now, and of the stands behind the bell and the ticks."""
+        if one >= RUNS:
+            return self._timed_beside(0, stand, one, two)
+        if two >= RUNS:
+            return self._timed_beside(1, stand, two, one)
+        if one < READY:
+            return (None, (stand,)) if two < READY else (1, (stand, *self._behind_words(1, two, one)))
+        # The parts of ready tasks at better levels have lesser numbers.
+        if two < READY or one >> 2 < two >> 2 or (one >> 2 == two >> 2 and not stand & 1):
+            return 0, (stand, *self._behind_words(0, one, two))
+        return 1, (stand, *self._behind_words(1, two, one))
+
+    def _timed_beside(self, runner, stand, runs, other):
+        """What `_timed` tells where a task runs and the other one does not."""
+        takes = self.alone.takers[runs - RUNS >> 2]
+        if not takes:
+            return runner, (stand, *self._behind_words(runner, runs, other))
+        lost, place = self.alone.after(runs, "lost")
+        bell = _placed(runner, lost, place, other)
+        if READY <= other and other - READY >> 2 < takes:
+            return 1 - runner, (bell, *self._behind_words(1 - runner, other, lost))
+        return runner, (bell, *self._behind_words(runner, runs, other))
+
+    def _behind_words(self, task, works, other):
+        """The tuple of the stands behind the words of a tick in which a task works, in the order of the ticks."""
+        state = works & 15
+        key = (task << 4 | state) << 6 | other
+        found = self._words.get(key)
+        if found is None:
+            on, on_place, asleep, way, way_place = self._works.get(state) or self._work(state)
+            found = (_placed(task, ENDED, None, other), _placed(task, on, on_place, other),
+                     _placed(task, asleep, None, other), _placed(task, way, way_place, other))
+            self._words[key] = found
+        return found
+
+    def _work(self, state):
+        """What one task comes to behind a tick of work with this own state, by each word but the end."""
+        alone = self.alone
+        works = READY + state
+        found = (*alone.after(works, "on"), alone.after(works, "sleep")[0], *alone.after(works, "way"))
+        self._works[state] = found
+        return found
+
+    def _written(self, number):
+        one, two = number >> 7, number >> 1 & 63
+        ahead = number & 1 if one >> 2 == two >> 2 and READY <= one < RUNS else None
+        return (self.alone.part(one), self.alone.part(two), ahead)
 
 
-def _all_behind(turns):
-    """A dict from each stand that is reached to those behind its comings, and those behind its bell and ticks."""
-    behind = {}
-    waiting = [FIRST]
-    while waiting:
-        stand = waiting.pop()
-        if stand not in behind:
-            comings = [turns.stand_after(stand, move) for move in turns.comings_at(stand)]
-            timed = [turns.stand_after(stand, move) for move in turns.timed_at(stand)]
-            behind[stand] = (comings, timed)
-            waiting.extend(comings)
-            waiting.extend(timed)
-    return behind
+def number_of_stand(stand):
+    """The number of a stand."""
+    one, two, ahead = stand
+    return number_of(one) << 7 | number_of(two) << 1 | (ahead or 0)
+
+
+def _placed(task, part, place, other):
+    """The stand in which a task has come to this part, and by this has entered a queue at a place, or not."""
+    if task == 0:
+        return part << 7 | other << 1 | (1 if place == "back" and part >> 2 == other >> 2 else 0)
+    return other << 7 | part << 1 | (1 if place == "front" and part >> 2 == other >> 2 else 0)

@@ -3,9 +3,9 @@
 from twoandabell.base.words import is_number, is_row
 from twoandabell.book.checks import check_books
 from twoandabell.errors import InvalidNumber, InvalidStand
-from twoandabell.pair.graphs import Graph
-from twoandabell.pair.stands import FIRST, is_stand
-from twoandabell.pair.turns import Turns
+from twoandabell.pair.forms import table_numbers
+from twoandabell.pair.graphs import BITS, FIRST_STAND, MASK, Graph, number_of_stand
+from twoandabell.pair.stands import is_stand
 from twoandabell.pair.walks import Walk
 from twoandabell.run.loads import is_parting
 
@@ -16,9 +16,10 @@ class Reach:
     """The reached joint stands of two books; it never changes."""
 
     def __init__(self, book, other):
-        self._walk = _walk_of(book, other)
+        self._walk = walk_of(book, other, whole=True)
         self._books = (book, other)
         self._joints = self._walk.stands_of(list(self._walk.before))
+        self._parted = self._walk.stands_of(self._walk.apart)
 
     @property
     def joints(self):
@@ -28,12 +29,12 @@ class Reach:
     @property
     def parted(self):
         """The ascending tuple of those at which different tasks would work."""
-        return self._walk.stands_of(self._walk.apart)
+        return self._parted
 
     @property
     def table(self):
         """The table of just the reached joint stands, or `None`."""
-        return None if self._walk.apart else self._joints
+        return None if self._parted else self._joints
 
     def layer(self, many):
         """The ascending tuple of those that need just so many ticks and bells."""
@@ -46,51 +47,49 @@ class Reach:
         return len(self._joints)
 
     def __contains__(self, x):
-        return self._pair_of(x) is not None
+        return self._number_of(x) is not None
 
     def __getitem__(self, at):
-        pair = self._pair_of(at)
-        if pair is None:
+        number = self._number_of(at)
+        if number is None:
             raise InvalidStand("this is no reached joint stand")
-        return self._walk.moves_to(pair)
+        return self._walk.moves_to(number)
 
     def __iter__(self):
         raise TypeError("reached joint stands can't be iterated over but as `joints`")
 
-    def _pair_of(self, value):
-        """The pair of numbers for which a value stands, or `None`."""
+    def _number_of(self, value):
+        """The number of the reached joint stand that a value is, or `None`."""
         book, other = self._books
         if not is_row(value, 2) or not is_stand(book, value[0]) or not is_stand(other, value[1]):
             return None
-        numbers, others = self._walk.one.numbers, self._walk.other.numbers
-        pair = (numbers.get(value[0]), others.get(value[1]))
-        return pair if pair in self._walk.before else None
+        number = number_of_stand(value[0]) << BITS | number_of_stand(value[1])
+        return number if number in self._walk.before else None
 
 
 def alike(book, other):
     """Whether two books part at no load."""
-    return not _walk_of(book, other).apart
+    return not walk_of(book, other).apart
 
 
 def parting_load(book, other):
     """A load of two tasks, as short as any, at whose last tick two books part, or `None`."""
-    return _walk_of(book, other).shortest_load()
+    return walk_of(book, other).shortest_load()
 
 
 def paper(book, other):
     """A paper that tells whether two books are alike: with a table, or with a load at whose last tick they part."""
-    return _walk_of(book, other).shortest_paper()
+    return walk_of(book, other).shortest_paper()
 
 
 def is_table(book, other, value):
     """Whether the value is a table of joint stands with which two books are alike."""
     check_books(book, other)
-    if not isinstance(value, tuple) or not all([_is_joint(book, other, joint) for joint in value]):
+    numbers = table_numbers(book, other, value)
+    if numbers is None:
         return False
-    if not all([value[index] < value[index + 1] for index in range(len(value) - 1)]):
-        return False
-    known = {joint: True for joint in value}
-    return (FIRST, FIRST) in known and _is_closed(Turns(book), Turns(other), known)
+    one, two = graphs_of(book, other)
+    return _is_closed(one, two, numbers)
 
 
 def is_paper(book, other, value):
@@ -103,34 +102,34 @@ def is_paper(book, other, value):
     return value[0] == "parting" and is_parting(book, other, value[1])
 
 
-def _walk_of(book, other):
+def graphs_of(book, other):
+    """The pair of the graphs of two books."""
+    graph = Graph(book)
+    # Equal books share one, so that nothing is told twice.
+    return graph, graph if book == other else Graph(other)
+
+
+def walk_of(book, other, *, whole=False):
+    """The walk through the joint stands of two books, all of them or as many as tell whether they part."""
     check_books(book, other)
-    return Walk(Graph(book), Graph(other), MAX_JOINTS)
+    one, two = graphs_of(book, other)
+    return Walk(one, two, MAX_JOINTS, whole=whole)
 
 
-def _is_joint(book, other, value):
-    """Whether the value has the form of a joint stand, reached or not."""
-    if not is_row(value, 2) or not is_stand(book, value[0]) or not is_stand(other, value[1]):
+def _is_closed(one, other, numbers):
+    """Whether some joint stands have the first one, at each the same task would work, and each move stays in them."""
+    known = set(numbers)
+    if (FIRST_STAND << BITS | FIRST_STAND) not in known:
         return False
-    return all([_kind(value[0][task]) == _kind(value[1][task]) for task in (0, 1)])
-
-
-def _kind(part):
-    """What is the same in both parts of a joint stand of what it tells of a task."""
-    return "there" if part[0] in ("ready", "runs") else part[0]
-
-
-def _is_closed(turns, others, known):
-    """Whether at each of some joint stands the same task would work, and each move leads to one of them."""
-    told, others_told = {}, {}
-    for one, two in known:
-        if one not in told:
-            told[one] = (turns.worker_at(one), turns.stands_behind(one))
-        if two not in others_told:
-            others_told[two] = (others.worker_at(two), others.stands_behind(two))
-        worker, behind = told[one]
-        other_worker, others_behind = others_told[two]
-        # The same moves are possible at both stands of a joint one, and are told in the same order.
-        if worker != other_worker or not all([near in known for near in zip(behind, others_behind)]):
+    rows, others = one.rows, other.rows
+    for number in numbers:
+        left, right = number >> BITS, number & MASK
+        worker, comings, timed = rows.get(left) or one.row(left)
+        other_worker, other_comings, other_timed = others.get(right) or other.row(right)
+        if worker != other_worker:
             return False
+        # The same moves are possible at both stands of a joint one, and are told in the same order.
+        for near, other_near in zip([*comings, *timed], [*other_comings, *other_timed]):
+            if near << BITS | other_near not in known:
+                return False
     return True

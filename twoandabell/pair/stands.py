@@ -4,11 +4,13 @@ from twoandabell.base.words import is_between, is_number, is_row
 from twoandabell.book.checks import check_book
 from twoandabell.book.states import is_posture
 from twoandabell.errors import InvalidLoad, InvalidNumber, InvalidOperation, InvalidStand
-from twoandabell.pair.turns import AWAY, BELL, ENDED, TICKS, Turns
+from twoandabell.pair.graphs import BELL, TICKS, Graph, number_of_stand
 from twoandabell.run.loads import is_load
 from twoandabell.run.processors import Processor
 
 FIRST = (("away",), ("away",), None)
+AWAY = ("away",)
+ENDED = ("ended",)
 
 
 def is_stand(book, value):
@@ -27,22 +29,26 @@ def is_stand(book, value):
 def moves_at(book, stand):
     """The ascending tuple of the moves that are possible."""
     _check_stand(book, stand)
-    return tuple(Turns(book).moves_at(stand))
+    return tuple(sorted(Graph(book).moves_at(number_of_stand(stand))))
 
 
 def worker_at(book, stand):
     """The task that would work in a tick now, or `None`."""
     _check_stand(book, stand)
-    return Turns(book).worker_at(stand)
+    worker, _, _ = Graph(book).row(number_of_stand(stand))
+    return worker
 
 
 def stand_after(book, stand, move):
     """The stand behind a move."""
     _check_stand(book, stand)
-    turns = Turns(book)
-    if not _is_move(move) or move not in turns.moves_at(stand):
+    graph = Graph(book)
+    number = number_of_stand(stand)
+    moves = graph.moves_at(number)
+    if not _is_move(move) or move not in moves:
         raise InvalidOperation("this move is not possible")
-    return turns.stand_after(stand, move)
+    _, comings, timed = graph.row(number)
+    return graph.stand([*comings, *timed][moves.index(move)])
 
 
 def exchanged(book, stand):
