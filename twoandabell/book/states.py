@@ -1,6 +1,7 @@
 """Own states of tasks, and the postures of a task alone."""
 
 from twoandabell.base.words import is_between, is_row
+from twoandabell.book.alone import Alone
 from twoandabell.book.checks import check_book
 from twoandabell.book.moves import MODES, QUEUE_WORDS, after_move, comer_state, entered, possible_moves, worked_state
 from twoandabell.errors import InvalidNumber, InvalidOperation, InvalidState, UnknownName
@@ -65,8 +66,8 @@ def posture_after(book, posture, move):
 def postures(book):
     """The ascending tuple of all postures to which moves lead from those of comers."""
     check_book(book)
-    # At one level all left numbers are `None`, or none of them is, so postures can be sorted.
-    return tuple(sorted(_shortest_ways(book)))
+    alone = Alone(book)
+    return tuple([alone.part(number) for number in alone.reached()])
 
 
 def way_to(book, posture):
