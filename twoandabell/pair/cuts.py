@@ -1,22 +1,21 @@
 """Loads at whose last tick two books part, cut to the two tasks that matter."""
 
+from twoandabell.book.checks import check_books
 from twoandabell.errors import InvalidLoad
-from twoandabell.run.loads import is_parting
+from twoandabell.run.loads import is_load
 from twoandabell.run.machines import Machine
 
 
 def two_of(book, other, load):
     """The task that works in the last tick by one book, and the one that works there by the other."""
-    _check_parting(book, other, load)
-    return _last_two(_told(book, load), _told(other, load))
+    return _last_two(_told(book, other, load))
 
 
 def cut(book, other, load):
     """The load of the two alone, at whose last tick the books part as well."""
-    _check_parting(book, other, load)
-    told, told_too = _told(book, load), _told(other, load)
-    two = _last_two(told, told_too)
-    kept = _kept(told, told_too)
+    told = _told(book, other, load)
+    two = _last_two(told)
+    kept = _kept(told)
     ticks = []
     # The comings of the two that go to the next tick that stays.
     waiting = []
@@ -32,38 +31,49 @@ def cut(book, other, load):
 
 def kept_ticks(book, other, load):
     """The ascending tuple of the indices of the ticks from which those of the cut come."""
-    _check_parting(book, other, load)
-    return tuple(_kept(_told(book, load), _told(other, load)))
+    return tuple(_kept(_told(book, other, load)))
 
 
-def _check_parting(book, other, load):
-    if not is_parting(book, other, load):
-        raise InvalidLoad("the books do not part at the last tick of this load")
+def _told(book, other, load):
+    """For each tick of a load the pairs of what the charts tell of it, and of the tasks that are taken away in it.
 
-
-def _told(book, load):
-    """For each tick of a load the pair of what the chart tells of it, and of the task that is taken away, or `None`."""
-    machine = Machine(book)
+    The four are in one row. Raise an error unless the books part just at the last tick.
+    """
+    check_books(book, other)
     found = []
-    for comings, word in load:
-        for coming in comings:
-            machine.let_in(coming)
-        lost = machine.lost_by(word)
-        found.append((machine.do_tick(word), lost))
+    if is_load(load):
+        one, two = Machine(book), Machine(other)
+        for comings, word in load:
+            # As long as the charts are equal the same tasks are asleep, so the same comings are possible.
+            if (found and found[-1][0] != found[-1][1]) or not (one.let_all_in(comings) and two.let_all_in(comings)):
+                raise InvalidLoad("the books part ahead of this tick, or a coming is not possible")
+            runner, other_runner = one.running(), two.running()
+            worker, other_worker = one.do_tick(word), two.do_tick(word)
+            lost = _lost(one, runner, worker)
+            found.append((worker, other_worker, lost, _lost(two, other_runner, other_worker)))
+    if not found or found[-1][0] == found[-1][1]:
+        raise InvalidLoad("the books do not part at the last tick of this load")
     return found
 
 
-def _last_two(told, told_too):
-    return (told[-1][0], told_too[-1][0])
+def _lost(machine, runner, worker):
+    """The task that ran, if it has been taken away in a tick that is now done, and otherwise `None`."""
+    if worker == "bell":
+        return runner if machine.running() is None else None
+    return None if worker == runner else runner
 
 
-def _kept(told, told_too):
+def _last_two(told):
+    return told[-1][:2]
+
+
+def _kept(told):
     """The ascending list of the indices of the ticks that stay."""
-    two = _last_two(told, told_too)
+    two = _last_two(told)
     found = []
-    for index, (worker, lost) in enumerate(told):
+    for index, (worker, _, lost, other_lost) in enumerate(told):
         # The last tick stays, for one of the two works in it.
-        if worker == "bell" or worker in two or lost in two or told_too[index][1] in two:
+        if worker == "bell" or worker in two or lost in two or other_lost in two:
             found.append(index)
     return found
 

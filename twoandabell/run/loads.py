@@ -1,6 +1,6 @@
 """Loads, their charts and pictures, and where two books part."""
 
-from twoandabell.base.words import is_between, is_number, is_row, is_word
+from twoandabell.base.words import NUMBER_LIMIT, TICK_WORDS, is_between
 from twoandabell.book.checks import check_book, check_books
 from twoandabell.errors import InvalidLoad, InvalidNumber, Stopped
 from twoandabell.run.machines import Machine
@@ -9,12 +9,26 @@ MAX_LOAD = 400
 MAX_COMINGS = 20
 MAX_TASKS = 60
 
+COMING_WORDS = ("come", "wake")
+
 
 def is_load(value):
     """Whether the value has the form of a load, possible for a book or not."""
     if not isinstance(value, tuple) or len(value) > MAX_LOAD:
         return False
-    return all([_is_tick(tick) for tick in value]) and _many_comers(value) <= MAX_TASKS
+    come = 0
+    # Loads are long, and most ticks are without comings: so it is looked at here what a tick is.
+    for tick in value:
+        if not isinstance(tick, tuple) or len(tick) != 2:
+            return False
+        comings, word = tick
+        if word not in TICK_WORDS or not isinstance(comings, tuple):
+            return False
+        if comings:
+            if not _are_comings(comings):
+                return False
+            come += _many_in(comings)
+    return come <= MAX_TASKS
 
 
 def chart(book, load):
@@ -74,18 +88,19 @@ def without_task(load, task):
     return tuple(ticks)
 
 
-def _is_tick(value):
-    return is_row(value, 2) and _are_comings(value[0]) and is_word(value[1])
-
-
 def _are_comings(value):
-    if not isinstance(value, tuple) or len(value) > MAX_COMINGS:
+    """Whether a tuple has the form of the comings of a tick."""
+    if len(value) > MAX_COMINGS:
         return False
-    return all([_is_coming(coming) for coming in value])
-
-
-def _is_coming(value):
-    return is_row(value, 2) and value[0] in ("come", "wake") and is_number(value[1])
+    for coming in value:
+        if not isinstance(coming, tuple) or len(coming) != 2:
+            return False
+        word, number = coming
+        if word not in COMING_WORDS or not isinstance(number, int) or number is True or number is False:
+            return False
+        if not 0 <= number < NUMBER_LIMIT:
+            return False
+    return True
 
 
 def _many_comers(load):
@@ -94,7 +109,7 @@ def _many_comers(load):
 
 def _many_in(comings):
     """The number of the comers among some comings."""
-    return len([word for word, _ in comings if word == "come"])
+    return len([coming for coming in comings if coming[0] == "come"])
 
 
 def _check_load(load):
@@ -105,10 +120,8 @@ def _check_load(load):
 def _done(machine, index, tick):
     """Do the tick with this index of a load, and return what the chart tells of it."""
     comings, word = tick
-    for coming in comings:
-        if not machine.is_possible(coming):
-            raise Stopped(index)
-        machine.let_in(coming)
+    if comings and not machine.let_all_in(comings):
+        raise Stopped(index)
     return machine.do_tick(word)
 
 

@@ -1,24 +1,33 @@
 """A machine: tasks that come, wake and work by a book. Nothing is checked here: callers do it."""
 
-from twoandabell.book.moves import after_move, comer_state
-from twoandabell.run.queues import Queues
+from twoandabell.book.alone import AWAY, ENDED, READY, RUNS, Alone
+from twoandabell.run.queues import queues_with
+
+ENDED_PICTURE = ("ended",)
 
 
 class Machine:
-    """The tasks that have come, what each of them is at, and the queues of the ready ones."""
+    """The tasks that have come, what each of them is at, and the queues of the ready ones.
+
+    What a task is at is kept as a posture and as its number (book/alone.py); what a move leads to is told only once.
+    """
 
     def __init__(self, book):
         self._book = book
+        self._alone = Alone(book)
+        self._takers = self._alone.takers
+        self._moves = {}
+        self._numbers = []
         self._postures = []
-        self._queues = Queues(len(book))
+        self._rows = [[] for _ in self._takers]
         self._runner = None
 
     def is_possible(self, coming):
         """Whether the rank of a comer is there, or a waker is asleep."""
         word, number = coming
         if word == "come":
-            return number < len(self._book.ranks)
-        return number < len(self._postures) and self._postures[number][0] == "asleep"
+            return number < len(self._alone.comers)
+        return number < len(self._numbers) and self._numbers[number] < AWAY
 
     def let_in(self, coming):
         """Let a task come or wake; this is possible."""
@@ -26,20 +35,37 @@ class Machine:
         if word == "wake":
             self._move(number, "wake")
             return
-        level, left = comer_state(self._book, number)
-        self._queues.enter(len(self._postures), level, "back")
-        self._postures.append(("ready", level, left))
+        comer = self._alone.comers[number]
+        self._rows[comer - READY >> 2].append(len(self._numbers))
+        self._numbers.append(comer)
+        self._postures.append(self._alone.part(comer))
+
+    def let_all_in(self, comings):
+        """Let the tasks of some comings come and wake, and return whether all of them could."""
+        for coming in comings:
+            if not self.is_possible(coming):
+                return False
+            self.let_in(coming)
+        return True
 
     def do_tick(self, word):
         """Do a tick behind its comings, and return what a chart tells of it."""
-        if self.lost_by(word) is not None:
-            self._move(self._runner, "lost")
-            self._runner = None
+        worker = self._runner
+        if worker is not None and self._is_lost(worker, word):
+            self._move(worker, "lost")
+            worker = self._runner = None
         if word == "bell":
             return "bell"
-        worker = self._queues.pick() if self._runner is None else self._runner
-        if worker is not None:
-            self._work(worker, word)
+        if worker is None:
+            worker = self._picked()
+            if worker is None:
+                return None
+        if word == "end":
+            self._runner = None
+            self._numbers[worker] = ENDED
+            self._postures[worker] = ENDED_PICTURE
+        else:
+            self._runner = worker if self._move(worker, word) >= RUNS else None
         return worker
 
     def all_postures(self):
@@ -48,55 +74,68 @@ class Machine:
 
     def order(self):
         """The tuple of the ready tasks, the best level first."""
-        return self._queues.tasks()
+        return tuple([task for row in self._rows for task in row])
 
     def queues(self):
         """The queues of the ready tasks, which are those of the caller."""
-        return self._queues.twin()
+        return queues_with(self._rows)
 
     def running(self):
         """The task that runs, or `None`."""
         return self._runner
 
-    def lost_by(self, word):
-        """The task that runs, if a tick with this word takes it away, and otherwise `None`."""
-        if self._runner is None:
-            return None
-        level = self._postures[self._runner][1]
-        takes = self._book.levels[level].takes
-        if word == "bell":
-            return self._runner if takes >= 1 else None
-        best = self._queues.best
-        return self._runner if best is not None and best < takes else None
-
     def worker(self):
         """The task that would work in a tick now, or `None`."""
-        if self._runner is not None and self.lost_by("on") is None:
+        if self._runner is not None and not self._is_lost(self._runner, "on"):
             return self._runner
         # Who is taken away enters at a level behind that of the best ready task, which so stays the best one.
-        order = self._queues.tasks()
+        order = self.order()
         return order[0] if order else None
 
     def twin(self):
         """An independent copy."""
         copied = Machine(self._book)
+        # What moves lead to never changes, so twins share it.
+        copied._moves = self._moves
+        copied._numbers = list(self._numbers)
         copied._postures = list(self._postures)
-        copied._queues = self._queues.twin()
+        copied._rows = [list(row) for row in self._rows]
         copied._runner = self._runner
         return copied
 
-    def _work(self, task, word):
-        """Let a task that is in no queue work a tick, and do what the word tells."""
-        self._runner = None
-        if word == "end":
-            self._postures[task] = ("ended",)
-            return
-        self._move(task, word)
-        if self._postures[task][0] == "runs":
-            self._runner = task
+    def _is_lost(self, task, word):
+        """Whether a tick with this word takes a running task away."""
+        takes = self._takers[self._numbers[task] - RUNS >> 2]
+        if not takes or word == "bell":
+            return takes > 0
+        for row in self._rows[:takes]:
+            if row:
+                return True
+        return False
+
+    def _picked(self):
+        """Take out the first task of the best queue that is not empty, and return it, or `None`."""
+        for row in self._rows:
+            if row:
+                return row.pop(0)
+        return None
 
     def _move(self, task, move):
-        behind, place = after_move(self._book, self._postures[task], move)
-        self._postures[task] = behind
-        if place is not None:
-            self._queues.enter(task, behind[1], place)
+        """Let a task that is in no queue make a move, and return the number of what it is at then."""
+        key = (self._numbers[task], move)
+        number, posture, place = self._moves.get(key) or self._told(key)
+        self._numbers[task] = number
+        self._postures[task] = posture
+        if place == "back":
+            self._rows[number - READY >> 2].append(task)
+        elif place is not None:
+            self._rows[number - READY >> 2].insert(0, task)
+        return number
+
+    def _told(self, key):
+        """Tell and keep where a move leads: the number behind it, the posture, and the place in a queue, or `None`."""
+        number, move = key
+        behind, place = self._alone.after(number, move)
+        found = (behind, self._alone.part(behind), place)
+        self._moves[key] = found
+        return found

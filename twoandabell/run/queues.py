@@ -60,9 +60,7 @@ class Queues:
 
     def twin(self):
         """An independent copy."""
-        copied = Queues(len(self._rows))
-        copied._rows = [list(row) for row in self._rows]
-        return copied
+        return queues_with(self._rows)
 
     def __getitem__(self, at):
         self._check_level(at)
@@ -93,6 +91,13 @@ class Queues:
     def _check_task(self, task):
         if task not in self:
             raise InvalidQueue("this task is not there")
+
+
+def queues_with(rows):
+    """Queues with the tasks of some lists, one for each level."""
+    queues = Queues(len(rows))
+    queues._rows = [list(row) for row in rows]
+    return queues
 
 
 def _row_text(level, row):
