@@ -253,14 +253,14 @@ class AlikeOrParting(unittest.TestCase):
 
     def test_loads_that_would_be_too_long(self):
         # No books are known that need so many ticks, so the limit is made a small one.
-        with patch("twoandabell.pair.walks.MAX_LOAD", 2):
+        with patch("twoandabell.pair.courses.MAX_LOAD", 2):
             for function in (parting_load, paper):
                 with self.assertRaises(TooMany) as caught:
                     function(FEED, LATE)
                 self.assertEqual(caught.exception.limit, 2)
             self.assertIs(alike(FEED, LATE), False)
             self.assertEqual(len(Reach(FEED, LATE)), 81)
-        with patch("twoandabell.pair.walks.MAX_LOAD", 3):
+        with patch("twoandabell.pair.courses.MAX_LOAD", 3):
             self.assertEqual(len(parting_load(FEED, LATE)), 3)
 
     def test_no_load_of_many_tasks_is_shorter(self):

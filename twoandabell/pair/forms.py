@@ -69,6 +69,16 @@ def table_numbers(book, other, value):
     return numbers if numbers == sorted(set(numbers)) else None
 
 
+def stand_numbers(book, value):
+    """The list of the numbers of a tuple of stands, if they are ascending; `None` if it is none."""
+    forms = Forms(book)
+    found = [forms.number(stand) for stand in value]
+    if None in found:
+        return None
+    numbers = [number & MASK for number in found]
+    return numbers if numbers == sorted(set(numbers)) else None
+
+
 def _is_shaped(value):
     """Whether a value is made of tuples, words, integers and `None` as a stand is, so that it can be a key."""
     if not isinstance(value, tuple) or len(value) != 3:

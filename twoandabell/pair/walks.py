@@ -2,9 +2,8 @@
 
 from twoandabell.errors import TooMany
 from twoandabell.pair.bounds import are_at_most
+from twoandabell.pair.courses import load_with
 from twoandabell.pair.graphs import BITS, FIRST_STAND, MASK
-from twoandabell.pair.stands import load_of
-from twoandabell.run.loads import MAX_LOAD
 
 
 class Walk:
@@ -53,10 +52,7 @@ class Walk:
         """A load of two tasks, as short as possible, at whose last tick the books part, or `None`."""
         if not self.apart:
             return None
-        moves = (*self.moves_to(self.apart[0]), ("tick", "on"))
-        if len([move for move in moves if move[0] in ("tick", "bell")]) > MAX_LOAD:
-            raise TooMany(MAX_LOAD)
-        return load_of(moves)
+        return load_with((*self.moves_to(self.apart[0]), ("tick", "on")))
 
     def shortest_paper(self):
         """A paper that tells whether the books are alike."""

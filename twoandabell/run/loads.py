@@ -34,7 +34,7 @@ def is_load(value):
 def chart(book, load):
     """The tuple that tells for each tick of a load which task works, `None` if it is idle, and `"bell"` for a bell."""
     check_book(book)
-    _check_load(load)
+    check_load(load)
     machine = Machine(book)
     told = []
     for index, tick in enumerate(load):
@@ -45,7 +45,7 @@ def chart(book, load):
 def pictures(book, load):
     """A generator of what each task that has come is at, behind each tick of a load."""
     check_book(book)
-    _check_load(load)
+    check_load(load)
     machine = Machine(book)
     for index, tick in enumerate(load):
         _done(machine, index, tick)
@@ -55,7 +55,7 @@ def pictures(book, load):
 def first_parted(book, other, load):
     """The index of the tick of a load at which two books part, or `None`."""
     check_books(book, other)
-    _check_load(load)
+    check_load(load)
     one, two = Machine(book), Machine(other)
     for index, tick in enumerate(load):
         if _done(one, index, tick) != _done(two, index, tick):
@@ -77,8 +77,8 @@ def is_parting(book, other, value):
 
 def without_task(load, task):
     """The load without the comings of a task; greater numbers of tasks are less by one."""
-    _check_load(load)
-    if not is_between(task, 0, _many_comers(load) - 1):
+    check_load(load)
+    if not is_between(task, 0, many_comers(load) - 1):
         raise InvalidNumber(task)
     ticks = []
     come = 0
@@ -103,7 +103,8 @@ def _are_comings(value):
     return True
 
 
-def _many_comers(load):
+def many_comers(load):
+    """The number of the tasks that come in a load."""
     return sum([_many_in(comings) for comings, _ in load])
 
 
@@ -112,7 +113,8 @@ def _many_in(comings):
     return len([coming for coming in comings if coming[0] == "come"])
 
 
-def _check_load(load):
+def check_load(load):
+    """Raise an error unless the value has the form of a load."""
     if not is_load(load):
         raise InvalidLoad("this has not the form of a load")
 

@@ -68,6 +68,14 @@ class Machine:
             self._runner = worker if self._move(worker, word) >= RUNS else None
         return worker
 
+    def many(self):
+        """The number of tasks that have come."""
+        return len(self._numbers)
+
+    def level_of(self, task):
+        """The level of a task that has not ended."""
+        return self._postures[task][1]
+
     def all_postures(self):
         """The tuple of what each task that has come is at: its posture, or that it has ended."""
         return tuple(self._postures)

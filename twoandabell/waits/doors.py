@@ -19,8 +19,11 @@ class Door:
             raise InvalidOperation("this is no door")
         asleep = [number for number in reached if number < OUT]
         ready = [number for number in reached if READY <= number < RUNS and _is_ahead(number, level, place)]
+        self.level = level
+        self.place = place
         self.alone = alone
         self.sides = Sides(alone, level)
+        self.asleep = asleep
         self.firsts = [*asleep, OUT, *ready]
         self.running = [number for number in reached if number >= RUNS and alone.takers[number - RUNS >> 2] <= level]
 

@@ -40,6 +40,12 @@ class Sides:
             self._steps[number] = found
         return found
 
+    def behind(self, number, steps):
+        """The side stand behind some steps, which are possible."""
+        for step in steps:
+            number = [near for own, near in self.steps(number) if own == step][0]
+        return number
+
     def reached(self, firsts):
         """The ascending list of all side stands to which steps lead from some first ones, these included."""
         found = {}
