@@ -29,9 +29,10 @@ class Graph:
         every = range(len(book.ranks))
         self._ranks = (list(every) if first is None else first, list(every) if second is None else second)
         self.rows = {}
+        self.stands = {}
+        self.swaps = {}
         self._works = {}
         self._words = {}
-        self._stands = {}
 
     def row(self, stand):
         """The row of a stand."""
@@ -46,10 +47,16 @@ class Graph:
 
     def stand(self, number):
         """The stand with this number."""
-        found = self._stands.get(number)
+        found = self.stands.get(number)
         if found is None:
             found = self._written(number)
-            self._stands[number] = found
+            self.stands[number] = found
+        return found
+
+    def swap(self, number):
+        """The stand with the two tasks exchanged."""
+        found = exchanged_number(number)
+        self.swaps[number] = found
         return found
 
     def comings_at(self, number):
@@ -133,6 +140,14 @@ def number_of_stand(stand):
     """The number of a stand."""
     one, two, ahead = stand
     return number_of(one) << 7 | number_of(two) << 1 | (ahead or 0)
+
+
+def exchanged_number(stand):
+    """The number of a stand with the two tasks exchanged."""
+    one, two = stand >> 7, stand >> 1 & 63
+    if READY <= one < RUNS and one >> 2 == two >> 2:
+        return two << 7 | one << 1 | 1 - (stand & 1)
+    return two << 7 | one << 1
 
 
 def _placed(task, part, place, other):

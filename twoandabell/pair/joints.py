@@ -19,7 +19,7 @@ class Reach:
         self._walk = walk_of(book, other, whole=True)
         self._books = (book, other)
         self._joints = self._walk.stands_of(list(self._walk.before))
-        self._parted = self._walk.stands_of(self._walk.apart)
+        self._parted = self._walk.stands_of_both(self._walk.apart)
 
     @property
     def joints(self):
@@ -41,7 +41,7 @@ class Reach:
         if not is_number(many):
             raise InvalidNumber(many)
         layers = self._walk.layers
-        return self._walk.stands_of(layers[many]) if many < len(layers) else ()
+        return self._walk.stands_of_both(layers[many]) if many < len(layers) else ()
 
     def __len__(self):
         return len(self._joints)
