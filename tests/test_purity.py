@@ -100,11 +100,17 @@ class Purity(unittest.TestCase):
             self.assertFalse(attributes & BARRED_ATTRIBUTES, owner.name)
             self.assertFalse(attributes & {node.name for node in methods(owner)}, owner.name)
 
+    def test_no_name_is_a_method_and_an_attribute(self):
+        attributes = {name for owner in classes() for name in stored_attributes(owner)}
+        self.assertEqual(attributes & {node.name for owner in classes() for node in methods(owner)}, set())
+
     def test_attributes_that_are_read_are_assigned(self):
         assigned, bound = set(), set()
         for tree in trees().values():
             assigned |= set(stored_attributes(tree))
             bound |= {node.name for node in functions(tree)}
+            bound |= {row.targets[0].id for owner in tree.body if isinstance(owner, ast.ClassDef)
+                      for row in owner.body if isinstance(row, ast.Assign)}
         for tree in trees().values():
             calls = [node.func for node in ast.walk(tree) if isinstance(node, ast.Call)]
             for node in ast.walk(tree):

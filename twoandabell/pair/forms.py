@@ -17,14 +17,14 @@ class Forms:
             self._add_level(4 * level, level, entries.ticks)
         self._read = {}
 
-    def number(self, value):
+    def read_stand(self, value):
         """The number of a stand, with its kinds as further bits; `None` if the value is none."""
         # What is equal to a stand can have booleans in it, so its shape is looked at each time.
         if not _is_shaped(value):
             return None
         found = self._read.get(value)
         if found is None:
-            found = self._number(*value)
+            found = self._number_for(*value)
             self._read[value] = found
         return found
 
@@ -38,7 +38,7 @@ class Forms:
         if ticks is not None:
             self._parts[("asleep", level, 0)] = first
 
-    def _number(self, one, two, ahead):
+    def _number_for(self, one, two, ahead):
         left, right = self._parts.get(one), self._parts.get(two)
         if left is None or right is None or (left >= RUNS and right >= RUNS):
             return None
@@ -61,7 +61,7 @@ def table_numbers(book, other, value):
     for joint in value:
         if not isinstance(joint, tuple) or len(joint) != 2:
             return None
-        one, two = forms.number(joint[0]), other_forms.number(joint[1])
+        one, two = forms.read_stand(joint[0]), other_forms.read_stand(joint[1])
         # Both stands tell the same of each task, as far as it is away, is asleep, has ended, or none of these.
         if one is None or two is None or one >> BITS != two >> BITS:
             return None
@@ -72,7 +72,7 @@ def table_numbers(book, other, value):
 def stand_numbers(book, value):
     """The list of the numbers of a tuple of stands, if they are ascending; `None` if it is none."""
     forms = Forms(book)
-    found = [forms.number(stand) for stand in value]
+    found = [forms.read_stand(stand) for stand in value]
     if None in found:
         return None
     numbers = [number & MASK for number in found]

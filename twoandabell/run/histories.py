@@ -1,22 +1,20 @@
-"""What a processor has come to behind each of its calls, and how it is put back."""
+"""What an object has come to behind each of its steps, and how it is put back.
+
+The object keeps its moment as `_now`, and as `_undone` the moments that were undone, the last of which is done again
+first. Moments never change, so that objects can share them.
+"""
+
+from twoandabell.base.words import is_number
+from twoandabell.errors import InvalidNumber, NothingToUndo
 
 
 class Moment:
-    """What is so behind a call; it never changes, so processors can share it."""
+    """What is so behind a step, whose text is kept as `call`, and behind those before it."""
 
-    def __init__(self, machine, before=None, call=None, told=None):
-        self.machine = machine
+    def __init__(self, before, call):
         self.before = before
         self.call = call
-        self.told = told
-        self.length = 0
-        self.ticks_done = 0
-        self.waiting = 0
-        if before is not None:
-            is_tick = call[0] == "tick"
-            self.length = before.length + 1
-            self.ticks_done = before.ticks_done + 1 if is_tick else before.ticks_done
-            self.waiting = 0 if is_tick else before.waiting + 1
+        self.length = 0 if before is None else before.length + 1
 
     def all_behind(self, many):
         """The list of this moment and those before it, as many as that, this one first."""
@@ -27,9 +25,13 @@ class Moment:
             moment = moment.before
         return found
 
+    def calls(self):
+        """The tuple of the steps that led to this moment."""
+        return tuple([moment.call for moment in self.all_behind(self.length)[::-1]])
+
 
 class Trial:
-    """A block of `with` behind which a processor is as before."""
+    """A block of `with` behind which an object is as before."""
 
     def __init__(self, held):
         self._held = held
@@ -54,3 +56,29 @@ class Kept:
         self.now = now
         self.undone = undone
         self.outer = outer
+
+
+def undo_steps(held, many):
+    """Put an object back as before its last steps, and return the length of its log."""
+    if not is_number(many):
+        raise InvalidNumber(many)
+    if many > held._now.length:
+        raise NothingToUndo(many)
+    undone = held._now.all_behind(many)
+    if undone:
+        held._now = undone[-1].before
+        held._undone = (*held._undone, *undone)
+    return held._now.length
+
+
+def redo_steps(held, many):
+    """Put an object back as behind steps that were undone, and return the length of its log."""
+    if not is_number(many):
+        raise InvalidNumber(many)
+    left = len(held._undone) - many
+    if left < 0:
+        raise NothingToUndo(many)
+    if many > 0:
+        held._now = held._undone[left]
+        held._undone = held._undone[:left]
+    return held._now.length

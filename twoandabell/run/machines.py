@@ -68,7 +68,7 @@ class Machine:
             self._runner = worker if self._move(worker, word) >= RUNS else None
         return worker
 
-    def many(self):
+    def many_tasks(self):
         """The number of tasks that have come."""
         return len(self._numbers)
 

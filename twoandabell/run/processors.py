@@ -2,10 +2,25 @@
 
 from twoandabell.base.words import is_between, is_number, is_word
 from twoandabell.book.checks import check_book
-from twoandabell.errors import InvalidLoad, InvalidNumber, InvalidOperation, NothingToUndo, TooMany
-from twoandabell.run.histories import Moment, Trial
+from twoandabell.errors import InvalidLoad, InvalidNumber, InvalidOperation, TooMany
+from twoandabell.run.histories import Moment, Trial, redo_steps, undo_steps
 from twoandabell.run.loads import MAX_COMINGS, MAX_LOAD, MAX_TASKS, is_load
 from twoandabell.run.machines import Machine
+
+
+class Call(Moment):
+    """What a processor has come to behind a call: its machine, what the chart tells, and how much has been done."""
+
+    def __init__(self, machine, before=None, call=None, told=None):
+        super().__init__(before, call)
+        self.machine = machine
+        self.told = told
+        self.ticks_done = 0
+        self.waiting = 0
+        if before is not None:
+            is_tick = call[0] == "tick"
+            self.ticks_done = before.ticks_done + 1 if is_tick else before.ticks_done
+            self.waiting = 0 if is_tick else before.waiting + 1
 
 
 class Processor:
@@ -14,8 +29,7 @@ class Processor:
     def __init__(self, book):
         check_book(book)
         self._book = book
-        self._now = Moment(Machine(book))
-        # The moments that were undone; the last one of them is done again first.
+        self._now = Call(Machine(book))
         self._undone = ()
 
     def come(self, rank):
@@ -107,7 +121,7 @@ class Processor:
     @property
     def log(self):
         """The tuple of the calls done."""
-        return tuple([moment.call for moment in self._moments()])
+        return self._now.calls()
 
     def queues(self):
         """The queues of the ready tasks, one for each level of the book."""
@@ -115,27 +129,11 @@ class Processor:
 
     def undo(self, *, many=1):
         """Put back all as before the last calls of the log, and return its length."""
-        if not is_number(many):
-            raise InvalidNumber(many)
-        if many > self._now.length:
-            raise NothingToUndo(many)
-        undone = self._now.all_behind(many)
-        if undone:
-            self._now = undone[-1].before
-            self._undone = (*self._undone, *undone)
-        return self._now.length
+        return undo_steps(self, many)
 
     def redo(self, *, many=1):
         """Put back all as behind calls that were undone, and return the length of the log."""
-        if not is_number(many):
-            raise InvalidNumber(many)
-        left = len(self._undone) - many
-        if left < 0:
-            raise NothingToUndo(many)
-        if many > 0:
-            self._now = self._undone[left]
-            self._undone = self._undone[:left]
-        return self._now.length
+        return redo_steps(self, many)
 
     def trial(self):
         """A block of `with` that gives the processor, and behind which all of it is as before."""
@@ -192,7 +190,7 @@ class Processor:
         self._enter_log(machine, coming, None)
 
     def _enter_log(self, machine, call, told):
-        self._now = Moment(machine, self._now, call, told)
+        self._now = Call(machine, self._now, call, told)
         self._undone = ()
 
     def _moments(self):

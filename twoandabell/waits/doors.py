@@ -8,7 +8,7 @@ from twoandabell.waits.sides import OUT, Sides
 
 
 class Door:
-    """A door of a book, with the first side stands at it in numbers: `firsts`, and `running` of a task that runs on."""
+    """A door of a book, with the first side stands at it in numbers: `firsts`, and `runners` of a task that runs on."""
 
     def __init__(self, book, level, place):
         check_book(book)
@@ -25,11 +25,11 @@ class Door:
         self.sides = Sides(alone, level)
         self.asleep = asleep
         self.firsts = [*asleep, OUT, *ready]
-        self.running = [number for number in reached if number >= RUNS and alone.takers[number - RUNS >> 2] <= level]
+        self.runners = [number for number in reached if number >= RUNS and alone.takers[number - RUNS >> 2] <= level]
 
     def bounds(self):
         """The most work of a life at the door, and that of one that runs on at first, each `None` without end."""
-        return self.sides.most_of(self.firsts), self.sides.most_of(self.running)
+        return self.sides.most_of(self.firsts), self.sides.most_of(self.runners)
 
 
 def doors_among(book, reached):

@@ -66,7 +66,7 @@ def _entering(book, machine, coming):
     """The task of a coming, and the level and the place by which it enters."""
     word, number = coming
     if word == "come":
-        return machine.many(), book.ranks[number], "back"
+        return machine.many_tasks(), book.ranks[number], "back"
     level, place, _ = book.levels[machine.level_of(number)].wake
     return number, level, place
 

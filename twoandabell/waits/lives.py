@@ -73,7 +73,7 @@ def _sides_and_firsts(book, level, place, runs):
     door = Door(book, level, place)
     if not isinstance(runs, bool):
         raise InvalidOperation("`runs` is no boolean")
-    return door.sides, door.running if runs else door.firsts
+    return door.sides, door.runners if runs else door.firsts
 
 
 def _is_side_stand(book, level, value):

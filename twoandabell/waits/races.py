@@ -21,7 +21,7 @@ class Races:
         # Where task 1 leads further than it could without a ring, the best moves lead to one.
         self._further = None
         self._best = {}
-        self._behind = _all_behind(graph, stands)
+        self._moves_on = _all_behind(graph, stands)
         ahead = self._all_ahead()
         # Without a ring in which it gains, task 1 can't work more often than there are stands at which it would.
         limit = len([stand for stand in stands if graph.row(stand)[0] == 1])
@@ -37,7 +37,7 @@ class Races:
             stand = waiting.pop(0)
             if self.leads[stand] == 0:
                 return ways[stand]
-            for move, behind, gain in self._behind[stand]:
+            for move, behind, gain in self._moves_on[stand]:
                 if behind not in ways and gain + self.leads[behind] == self.leads[stand]:
                     ways[behind] = (*ways[stand], move)
                     waiting.append(behind)
@@ -60,7 +60,7 @@ class Races:
     def _all_ahead(self):
         """A dict from each stand to the triples of a stand ahead of it, the move that leads to it, and its gain."""
         ahead = {}
-        for stand, rows in self._behind.items():
+        for stand, rows in self._moves_on.items():
             for move, behind, gain in rows:
                 ahead.setdefault(behind, []).append((stand, move, gain))
         return ahead

@@ -81,12 +81,12 @@ def _lives(door, line, others, least):
     firsts = [OUT, *fresh, *door.asleep]
     most = sides.most_of(firsts)
     if line is None:
-        return [_long_life(sides, firsts if most is None else door.running, least)]
+        return [_long_life(sides, firsts if most is None else door.runners, least)]
     lives = [sides.longest_life(firsts)] * others if most > 0 else []
     if line[1] > 0:
         # Who runs at first works ahead of all others.
-        sides.most_of(door.running)
-        lives = [sides.longest_life(door.running), *lives[1:]]
+        sides.most_of(door.runners)
+        lives = [sides.longest_life(door.runners), *lives[1:]]
     return lives
 
 
@@ -112,7 +112,7 @@ def _all_brought(processor, alone, lives):
     Those that are asleep at first come ahead of one that runs, and those that are ready behind it.
     """
     tasks = [None for _ in lives]
-    for index in sorted(list(range(len(lives))), key=lambda index: _turn(lives[index][0])):
+    for index in sorted(list(range(len(lives))), key=lambda at: _turn(lives[at][0])):
         first, _ = lives[index]
         if READY <= first < RUNS:
             tasks[index] = processor.come(alone.comers.index(first))

@@ -1,0 +1,1 @@
+"""A desk that keeps books and processors."""
