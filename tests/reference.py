@@ -49,14 +49,21 @@ class Scheduler:
         self.tasks.append(Task(self.book["come", rank], None))
         self.put(len(self.tasks) - 1, self.book["come", rank], "back", "new")
 
+    def tick_ahead(self, coming):
+        """Let a task come or wake ahead of a tick; return whether this is possible."""
+        kind, number = coming
+        if kind == "come" and number < len(self.book.ranks):
+            self.come(number)
+        elif kind == "wake" and number in self.asleep():
+            self.enter_by(number, "wake")
+        else:
+            return False
+        return True
+
     def tick(self, comings, word):
         """Do a tick; return what the chart tells, or `"stopped"`."""
-        for kind, number in comings:
-            if kind == "come" and number < len(self.book.ranks):
-                self.come(number)
-            elif kind == "wake" and number in self.asleep():
-                self.enter_by(number, "wake")
-            else:
+        for coming in comings:
+            if not self.tick_ahead(coming):
                 return "stopped"
         runner = self.running()
         if runner is not None:

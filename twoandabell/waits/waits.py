@@ -71,8 +71,8 @@ def _check_numbers(book, line, others, least):
 def _lives(door, line, others, least):
     """The lives of the other tasks while one waits, one after another, as pairs of a first side stand and of steps.
 
-    A task that stays away has none. Where a task is ready ahead at first, its slice can as well be new, for this gives
-    it at least as much work; and at a better level it can as well come a little later.
+    Where a task is ready ahead at first, its slice can as well be new, for this gives it at least as much work; and at
+    a better level it can as well come a little later.
     """
     if others == 0:
         return []
@@ -82,7 +82,7 @@ def _lives(door, line, others, least):
     most = sides.most_of(firsts)
     if line is None:
         return [_long_life(sides, firsts if most is None else door.runners, least)]
-    lives = [sides.longest_life(firsts)] * others if most > 0 else []
+    lives = [sides.longest_life(firsts)] * others
     if line[1] > 0:
         # Who runs at first works ahead of all others.
         sides.most_of(door.runners)
