@@ -60,7 +60,7 @@ class Compared(unittest.TestCase):
                 by_door.setdefault(door, []).append(book)
         for door, found in by_door.items():
             bounded = [book for book in found if wait_line(book, *door) is not None]
-            for _ in range(80):
+            for _ in range(200):
                 book, other = source.choice(bounded or found), source.choice(bounded or found)
                 lengths.add(self.check(book, other, door))
                 self.check(source.choice(found), other, door)
@@ -70,7 +70,7 @@ class Compared(unittest.TestCase):
         told = compared_waits(book, other, *door)
         self.assertEqual(told[0][0], 1)
         self.assertEqual(list(told), sorted(told))
-        for others in (*range(1, 20), 10 ** 6):
+        for others in (1, 2, 3, 4, 9, 10 ** 6):
             word = [word for start, word in told if start <= others][-1]
             one, two = [10 ** 50 if length is None else length
                         for length in (longest_wait(book, *door, others), longest_wait(other, *door, others))]
