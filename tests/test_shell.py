@@ -58,7 +58,7 @@ class Lines(unittest.TestCase):
                 ("idle feed", "lost 0, takes 0"), ("idle late", "lost 0, takes 0"), ("wait feed 0 back 0", "0"),
                 ("wait feed 0 back 9999999999", "9999999999"), ("wait feed 1 back 1", "none"), ("wait feed 1 back 0", "0"),
                 ("lead feed 0 1", "none" if lead(CALM, 0, 1) is None else str(lead(CALM, 0, 1))), ("start b late", "done"),
-                ("drop cpu", "done"), ("names", "b feed late"), ("do b ^0 on", None), ("drop feed", "done"), ("undo 9", "0"),
+                ("drop cpu", "done"), ("names", "b feed late"), ("do b ^0 on", None), ("drop feed", "done"), ("undo 10", "0"),
                 ("names", "-"), ("redo 2", "2"), ("names", "feed late")):
             if result is None:
                 with self.assertRaises(InvalidOperation):
