@@ -43,6 +43,14 @@ INTERFACE = {
     "change.entries": "matters idle_keys entry_paper is_entry_paper are_free",
     "change.levels": "reached counts trimmed without joined join_paper",
     "waits.lives": "doors first_stands steps_from most_work life_paper is_life_paper",
+    "waits.lengths": "waits_in wait_line longest_wait",
+    "waits.waits": "wait_load is_wait_load",
+    "waits.ranks": "is_ahead ahead_paper is_ahead_paper lead lead_paper is_lead_paper",
+    "change.fewest": "fewest_changes change_paper is_change_paper",
+    "waits.compared": "compared_waits bounding_changes",
+    "desk.desk": "Desk",
+    "text.loads": "write_load write_chart read_load read_chart",
+    "text.shell": "Shell",
 }
 METHODS = {
     ("book.books", "Level"): "ticks used wake way lost takes __getitem__ __contains__ replaced plain __eq__ __str__",
@@ -54,6 +62,9 @@ METHODS = {
                                       "__getitem__ __contains__ queues log undo redo trial during twin __iadd__ "
                                       "__eq__ __str__"),
     ("pair.joints", "Reach"): "joints parted table __len__ __contains__ __getitem__ layer",
+    ("desk.desk", "Desk"): ("put start drop do adopt book_of processor_of followed_by books processors kinds log undo "
+                            "redo trial during twin __eq__ __len__ __contains__ __iter__ __str__"),
+    ("text.shell", "Shell"): "do results desk log",
 }
 
 

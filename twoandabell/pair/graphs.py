@@ -26,8 +26,8 @@ class Graph:
 
     def __init__(self, book, first=None, second=None):
         self.alone = Alone(book)
-        every = range(len(book.ranks))
-        self._ranks = (list(every) if first is None else first, list(every) if second is None else second)
+        every = list(range(len(book.ranks)))
+        self._ranks = (every if first is None else first, every if second is None else second)
         self.rows = {}
         self.stands = {}
         self.swaps = {}
