@@ -12,6 +12,9 @@ FIRST_STAND = 1560
 BITS = 13
 MASK = 8191
 
+# Where a task enters a level so that the second one is ahead there: at the back the first one, at the front the second.
+AHEAD = ("back", "front")
+
 BELL = ("bell",)
 # Ascending, as moves are told.
 TICKS = (("tick", "end"), ("tick", "on"), ("tick", "sleep"), ("tick", "way"))
@@ -52,6 +55,15 @@ class Graph:
             found = self._written(number)
             self.stands[number] = found
         return found
+
+    def all_stands(self):
+        """A dict from the numbers of all stands that were swapped, and of those with the tasks exchanged, to them."""
+        stands = self.stands
+        for number, mirror in self.swaps.items():
+            if number not in stands:
+                stands[number] = self._written(number)
+                stands[mirror] = self._written(mirror)
+        return stands
 
     def swap(self, number):
         """The stand with the two tasks exchanged."""
@@ -117,8 +129,14 @@ class Graph:
         found = self._words.get(key)
         if found is None:
             on, on_place, asleep, way, way_place = self._works.get(state) or self._work(state)
-            found = (_placed(task, ENDED, None, other), _placed(task, on, on_place, other),
-                     _placed(task, asleep, None, other), _placed(task, way, way_place, other))
+            on_tie = 1 if on_place == AHEAD[task] and on >> 2 == other >> 2 else 0
+            way_tie = 1 if way_place == AHEAD[task] and way >> 2 == other >> 2 else 0
+            if task == 0:
+                rest = other << 1
+                found = (ENDED << 7 | rest, on << 7 | rest | on_tie, asleep << 7 | rest, way << 7 | rest | way_tie)
+            else:
+                rest = other << 7
+                found = (rest | ENDED << 1, rest | on << 1 | on_tie, rest | asleep << 1, rest | way << 1 | way_tie)
             self._words[key] = found
         return found
 
@@ -152,6 +170,5 @@ def exchanged_number(stand):
 
 def _placed(task, part, place, other):
     """The stand in which a task has come to this part, and by this has entered a queue at a place, or not."""
-    if task == 0:
-        return part << 7 | other << 1 | (1 if place == "back" and part >> 2 == other >> 2 else 0)
-    return other << 7 | part << 1 | (1 if place == "front" and part >> 2 == other >> 2 else 0)
+    tie = 1 if place == AHEAD[task] and part >> 2 == other >> 2 else 0
+    return part << 7 | other << 1 | tie if task == 0 else other << 7 | part << 1 | tie

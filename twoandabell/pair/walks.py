@@ -5,10 +5,6 @@ from twoandabell.pair.bounds import are_at_most
 from twoandabell.pair.courses import load_with
 from twoandabell.pair.graphs import BITS, FIRST_STAND, MASK, exchanged_number
 
-# The parts of a row that tell where comings and wakings lead, and where bells and ticks do.
-COMINGS = 1
-TIMED = 2
-
 
 class Walk:
     """The reached joint stands of two graphs, each with a number; `TooMany` if they are more than a limit.
@@ -16,16 +12,17 @@ class Walk:
     A number is made of those of both stands. What two tasks come to, they come to exchanged as well; so only one joint
     stand of each two is gone on from.
 
-    `before` leads from each of all to one ahead of it, on a way with as few ticks and bells as possible. `layers` has
-    for each number of ticks and bells the list of those that need so many, one of each two. `apart` is such a list of
-    those at which different tasks would work, the nearest ones first. If it is not `whole`, a walk can end there.
+    `before` leads from each of these to one ahead of it, on a way with as few ticks and bells as possible, and from the
+    first one to 0; from each of the others it leads to the one of the two with a minus. `layers` has for each number of
+    ticks and bells the list of those that need so many. `apart` is the list of those at which different tasks would
+    work, the nearest ones first. If it is not `whole`, a walk can end there.
     """
 
     def __init__(self, one, other, limit, *, whole=True):
         first = FIRST_STAND << BITS | FIRST_STAND
         self.one = one
         self.other = other
-        self.before = {first: None}
+        self.before = {first: 0}
         self.layers = []
         self.apart = []
         self._limit = limit
@@ -34,23 +31,22 @@ class Walk:
         other.swap(FIRST_STAND)
         layer = [first]
         while layer:
-            layer = self._with_comings(layer)
+            layer, timed = self._with_comings(layer)
             if len(self.before) > limit:
                 raise TooMany(limit)
             self.layers.append(layer)
-            layer = [] if self.apart and self._can_end() else self._behind_ticks(layer)
+            layer = [] if self.apart and self._can_end() else self._behind(timed)
 
     def stands_of(self, joints):
         """The ascending tuple of the joint stands with some numbers."""
-        stands, others = self.one.stands, self.other.stands
-        return tuple([(stands.get(joint >> BITS) or self.one.stand(joint >> BITS),
-                       others.get(joint & MASK) or self.other.stand(joint & MASK)) for joint in sorted(joints)])
+        stands, others = self.one.all_stands(), self.other.all_stands()
+        return tuple([(stands[joint >> BITS], others[joint & MASK]) for joint in sorted(joints)])
 
     def stands_of_both(self, joints):
         """The ascending tuple of the joint stands with some numbers, and of those with their tasks exchanged."""
         both = {joint: True for joint in joints}
         for joint in joints:
-            both[_exchanged(joint)] = True
+            both[exchanged_number(joint >> BITS) << BITS | exchanged_number(joint & MASK)] = True
         return self.stands_of(list(both))
 
     def reached_table(self):
@@ -59,8 +55,10 @@ class Walk:
 
     def moves_to(self, joint):
         """The tuple of moves, with as few ticks and bells as possible, that lead to a reached joint stand."""
+        if self.before[joint] < 0:
+            return tuple([_exchanged_move(move) for move in self.moves_to(-self.before[joint])])
         moves = []
-        while self.before[joint] is not None:
+        while self.before[joint] > 0:
             moves.append(self._move_between(self.before[joint], joint))
             joint = self.before[joint]
         return tuple(moves[::-1])
@@ -84,63 +82,58 @@ class Walk:
         return not self._whole
 
     def _with_comings(self, layer):
-        """The joint stands of a list, and all to which only comings and wakings lead from them, one of each two."""
-        found = []
+        """The joint stands of a list, and all to which only comings and wakings lead from them, one of each two.
+
+        With them the rows of their bells and ticks are told, for `_behind`.
+        """
+        found, timed = [], []
         wave = layer
         while wave:
             found.extend(wave)
-            moving = self._with_moves_ahead(wave)
+            comings = self._rows_of(wave, timed)
             if self.apart and self._can_end():
-                return found
-            wave = self._behind(moving, COMINGS)
-        return found
+                return found, timed
+            wave = self._behind(comings)
+        return found, timed
 
-    def _behind_ticks(self, layer):
-        """The new joint stands to which a bell leads from those of a list, or a tick in which the same task works."""
-        return self._behind(layer, TIMED)
+    def _rows_of(self, joints, timed):
+        """For new joint stands the triples of each and of the stands behind its comings and wakings by both books.
 
-    def _with_moves_ahead(self, joints):
-        """Those of some new joint stands from which comings or wakings lead on; it is kept which of all are apart."""
+        The triples for the bell and the ticks are put into a list; and it is kept at which different tasks would work.
+        """
         rows, others = self.one.rows, self.other.rows
         found = []
         for joint in joints:
-            worker, comings, _ = rows.get(joint >> BITS) or self.one.row(joint >> BITS)
-            other_worker, _, _ = others.get(joint & MASK) or self.other.row(joint & MASK)
-            if worker != other_worker:
-                self.apart.append(joint)
+            worker, comings, ticks = rows.get(joint >> BITS) or self.one.row(joint >> BITS)
+            other_worker, other_comings, other_ticks = others.get(joint & MASK) or self.other.row(joint & MASK)
             if comings:
-                found.append(joint)
+                found.append((joint, comings, other_comings))
+            if worker == other_worker:
+                timed.append((joint, ticks, other_ticks))
+            else:
+                self.apart.append(joint)
+                # There only the bell leads on, which both begin with.
+                timed.append((joint, ticks[:1], other_ticks))
         return found
 
-    def _behind(self, joints, part):
-        """The new joint stands behind those of a list, by the moves that a part of each row tells; one of each two."""
-        before, rows, others = self.before, self.one.rows, self.other.rows
-        swaps, other_swaps = self.one.swaps, self.other.swaps
+    def _behind(self, triples):
+        """The new joint stands behind some, told with the stands behind them by both books; one of each two."""
+        before, swaps, other_swaps = self.before, self.one.swaps, self.other.swaps
         found = []
-        for joint in joints:
-            left, right = joint >> BITS, joint & MASK
-            row, other_row = rows[left], others[right]
-            stands = row[part]
-            if part == TIMED and row[0] != other_row[0]:
-                # Where different tasks would work only the bell, which both begin with, leads on.
-                stands = stands[:1]
-            for one, two in zip(stands, other_row[part]):
+        for joint, stands, other_stands in triples:
+            for one, two in zip(stands, other_stands):
                 near = one << BITS | two
                 if near not in before:
+                    mirror = (swaps.get(one) or self.one.swap(one)) << BITS
+                    before[mirror | (other_swaps.get(two) or self.other.swap(two))] = -near
+                    # It can be its own mirror.
                     before[near] = joint
                     found.append(near)
-                    mirror = (swaps.get(one) or self.one.swap(one)) << BITS
-                    mirror = mirror | (other_swaps.get(two) or self.other.swap(two))
-                    before[mirror] = swaps[left] << BITS | other_swaps[right]
         return found
 
     def _move_between(self, start, end):
         """The move by which a joint stand was found from the one ahead of it."""
         left, right = start >> BITS, start & MASK
-        if left not in self.one.rows or right not in self.other.rows:
-            # This one was not gone on from, but the one with the tasks exchanged was.
-            move = self._move_between(_exchanged(start), _exchanged(end))
-            return (move[0], 1 - move[1], *move[2:]) if move[0] in ("come", "wake") else move
         _, comings, timed = self.one.rows[left]
         _, other_comings, other_timed = self.other.rows[right]
         moves = self.one.moves_at(left)
@@ -149,6 +142,6 @@ class Walk:
         return [move for move, one, two in zip(moves, near, others) if one << BITS | two == end][0]
 
 
-def _exchanged(joint):
-    """The joint stand with the two tasks exchanged."""
-    return exchanged_number(joint >> BITS) << BITS | exchanged_number(joint & MASK)
+def _exchanged_move(move):
+    """The move of the other task of two."""
+    return (move[0], 1 - move[1], *move[2:]) if move[0] in ("come", "wake") else move
