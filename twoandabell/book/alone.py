@@ -4,14 +4,14 @@ What a stand tells of a task is a part, and each part has a number, in the ascen
 (level, left) is numbered 4 * level + left, with 0 for `None`; to this is added what the mode begins with.
 """
 
-from twoandabell.book.moves import left_in
-
 # What the modes begin with, asleep ones with 0, and the numbers of the parts without an own state.
 FIRST_NUMBERS = {"asleep": 0, "away": 12, "ended": 13, "ready": 16, "runs": 32}
 AWAY = 12
 ENDED = 13
 READY = 16
 RUNS = 32
+# The modes by what numbers begin with, in sixteens.
+MODES = ("asleep", "ready", "runs")
 
 
 class Alone:
@@ -23,17 +23,38 @@ class Alone:
         self._ticks = [level.ticks for level in levels]
         self.takers = [level.takes for level in levels]
         self.comers = [READY + 4 * level + (self._ticks[level] or 0) for level in book.ranks]
-        self.known = {}
+        self._known = {}
         self._parts = {}
 
     def after(self, number, move):
         """The pair of the number behind a move of a task alone, and of the place of the queue it enters, or `None`."""
         key = (number, move)
-        found = self.known.get(key)
+        found = self._known.get(key)
         if found is None:
-            found = self._told(number & 15, move)
-            self.known[key] = found
+            found = self.tell(number & 15, move)
+            self._known[key] = found
         return found
+
+    def tell(self, state, move):
+        """What `after` tells of a task with this own state, awake or asleep; this is not kept."""
+        index = state >> 2
+        level = self._levels[index]
+        if move == "wake":
+            entry = level.wake
+        elif move == "lost":
+            entry = level.lost
+        else:
+            bare = self._ticks[index] is None
+            state = state if bare else state - 1
+            if move == "sleep":
+                return (state, None)
+            if move == "on":
+                if bare or state & 3:
+                    return (RUNS + state, None)
+                entry = level.used
+                return (READY + self._anew(entry[0]), entry[1])
+            entry = level.way
+        return (READY + self._entering(entry, state & 3), entry[1])
 
     def part(self, number):
         """The part with this number."""
@@ -45,7 +66,7 @@ class Alone:
 
     def behind_loss(self, number):
         """The list of the number behind a loss, if a task with this part can be taken away; else it is empty."""
-        if number < RUNS or not self.takers[number - RUNS >> 2]:
+        if number < RUNS or not self.takers[(number - RUNS) >> 2]:
             return []
         return [self.after(number, "lost")[0]]
 
@@ -62,50 +83,46 @@ class Alone:
             state = waiting.pop()
             if state not in ready:
                 ready[state] = True
-                waiting.extend(self._worked_through(state, asleep, runs))
+                self._work_through(state, asleep, runs, waiting)
         found = [READY + state for state in ready] + [RUNS + state for state in runs]
         return sorted(list(asleep) + found)
 
-    def _worked_through(self, state, asleep, runs):
-        """The states with which a task enters that works on from this one on, and all between, as far as it is new."""
+    def postures(self, numbers):
+        """The tuple of the postures with some numbers."""
+        lefts = [None if ticks is None else left for ticks in self._ticks for left in (0, 1, 2, 3)]
+        return tuple([(MODES[number >> 4], (number & 15) >> 2, lefts[number & 15]) for number in numbers])
+
+    def _work_through(self, state, asleep, runs, waiting):
+        """Let a task work from an own state on until its slice is used up, or it comes to where it worked before.
+
+        Where it would sleep and run is put into dicts, and the states with which it would enter queues into a list.
+        """
         level = self._levels[state >> 2]
+        entries = (level.wake, level.way, level.lost) if level.takes else (level.wake, level.way)
         bare = self._ticks[state >> 2] is None
-        found = []
         while True:
             state = state if bare else state - 1
             if state in asleep:
-                return found
+                return
             asleep[state] = True
-            found.append(self._entering(level.wake, state))
-            found.append(self._entering(level.way, state))
-            if not bare and not state & 3:
-                found.append(self._anew(level.used[0]))
-                return found
+            left = state & 3
+            if left == 0 and not bare:
+                # Who has used up a slice is not taken away, for it does not run on.
+                waiting.append(self._entering(level.wake, 0))
+                waiting.append(self._entering(level.way, 0))
+                waiting.append(self._anew(level.used[0]))
+                return
             runs[state] = True
-            if level.takes:
-                found.append(self._entering(level.lost, state))
+            for entry in entries:
+                waiting.append(self._entering(entry, left))
 
-    def _told(self, state, move):
-        """What `after` tells of a task with this own state, awake or asleep."""
-        level = self._levels[state >> 2]
-        if move == "wake":
-            return (READY + self._entering(level.wake, state), level.wake[1])
-        if move == "lost":
-            return (READY + self._entering(level.lost, state), level.lost[1])
-        if self._ticks[state >> 2] is not None:
-            state = state - 1
-        if move == "sleep":
-            return (state, None)
-        if move == "way":
-            return (READY + self._entering(level.way, state), level.way[1])
-        if self._ticks[state >> 2] is not None and not state & 3:
-            return (READY + self._anew(level.used[0]), level.used[1])
-        return (RUNS + state, None)
-
-    def _entering(self, entry, state):
-        """The own state with which a task enters by a triple of a level, a place and a rest."""
+    def _entering(self, entry, left):
+        """The own state with which a task enters by a triple of a level, a place and a rest; 0 left is as `None`."""
         level, _, rest = entry
-        return 4 * level + (left_in(self._ticks[level], rest, state & 3) or 0)
+        ticks = self._ticks[level]
+        if ticks is None:
+            return 4 * level
+        return 4 * level + (left if rest == "kept" and 0 < left < ticks else ticks)
 
     def _anew(self, level):
         """The own state of a task that enters a level with a new rest."""
@@ -116,9 +133,8 @@ class Alone:
             return ("away",)
         if number == ENDED:
             return ("ended",)
-        mode = "runs" if number >= RUNS else "ready" if number >= READY else "asleep"
         level = (number & 15) >> 2
-        return (mode, level, None if self._ticks[level] is None else number & 3)
+        return (MODES[number >> 4], level, None if self._ticks[level] is None else number & 3)
 
 
 def number_of(part):

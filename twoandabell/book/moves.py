@@ -24,12 +24,12 @@ def entered(book, word, state):
         rest = "new"
     else:
         target, place, rest = book.levels[level][word]
-    return (target, left_in(book.levels[target].ticks, rest, left)), place
+    return (target, _left_in(book.levels[target].ticks, rest, left)), place
 
 
-def left_in(ticks, rest, left):
-    """The left number at a level with this slice, of a task that had another one left before; 0 is as `None`."""
-    if rest == "new" or ticks is None or not left:
+def _left_in(ticks, rest, left):
+    """The left number at a level with this slice, of a task that had another one left before."""
+    if rest == "new" or ticks is None or left is None or left == 0:
         return ticks
     return min(left, ticks)
 

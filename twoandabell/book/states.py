@@ -67,7 +67,7 @@ def postures(book):
     """The ascending tuple of all postures to which moves lead from those of comers."""
     check_book(book)
     alone = Alone(book)
-    return tuple([alone.part(number) for number in alone.reached()])
+    return alone.postures(alone.reached())
 
 
 def way_to(book, posture):

@@ -43,7 +43,7 @@ class Graph:
         if found is None:
             one, two = stand >> 7, stand >> 1 & 63
             comings = () if one >= ENDED and two >= ENDED else self._comings(one, two)
-            worker, timed = self._timed(stand, one, two)
+            worker, timed = self._timed(stand)
             found = (worker, comings, timed)
             self.rows[stand] = found
         return found
@@ -70,6 +70,22 @@ class Graph:
         found = exchanged_number(number)
         self.swaps[number] = found
         return found
+
+    def stand_behind(self, number, move):
+        """The stand behind a move that is possible; nothing else is told."""
+        parts = (number >> 7, number >> 1 & 63)
+        if move[0] == "come":
+            return _placed(move[1], self.alone.comers[move[2]], "back", parts[1 - move[1]])
+        if move[0] == "wake":
+            behind, place = self.alone.after(parts[move[1]], "wake")
+            return _placed(move[1], behind, place, parts[1 - move[1]])
+        bell, worker, works, other = self._at_work(number)
+        if move == BELL:
+            return bell
+        if move[1] == "end":
+            return _placed(worker, ENDED, None, other)
+        behind, place = self.alone.after(works, move[1])
+        return _placed(worker, behind, place, other)
 
     def comings_at(self, number):
         """The list of the comings and wakings that are possible."""
@@ -98,29 +114,28 @@ class Graph:
             found.append(_placed(1, behind, place, one))
         return tuple(found)
 
-    def _timed(self, stand, one, two):
+    def _timed(self, stand):
         """The pair of who would work in a tick now, and of the stands behind the bell and the ticks."""
-        if one >= RUNS:
-            return self._timed_beside(0, stand, one, two)
-        if two >= RUNS:
-            return self._timed_beside(1, stand, two, one)
-        if one < READY:
-            return (None, (stand,)) if two < READY else (1, (stand, *self._behind_words(1, two, one)))
-        # The parts of ready tasks at better levels have lesser numbers.
-        if two < READY or one >> 2 < two >> 2 or (one >> 2 == two >> 2 and not stand & 1):
-            return 0, (stand, *self._behind_words(0, one, two))
-        return 1, (stand, *self._behind_words(1, two, one))
+        bell, worker, works, other = self._at_work(stand)
+        return worker, (bell,) if worker is None else (bell, *self._behind_words(worker, works, other))
 
-    def _timed_beside(self, runner, stand, runs, other):
-        """What `_timed` tells where a task runs and the other one does not."""
-        takes = self.alone.takers[runs - RUNS >> 2]
-        if not takes:
-            return runner, (stand, *self._behind_words(runner, runs, other))
-        lost, place = self.alone.after(runs, "lost")
-        bell = _placed(runner, lost, place, other)
-        if READY <= other and other - READY >> 2 < takes:
-            return 1 - runner, (bell, *self._behind_words(1 - runner, other, lost))
-        return runner, (bell, *self._behind_words(runner, runs, other))
+    def _at_work(self, stand):
+        """The stand behind a bell; who would work in a tick now, or `None`; and the parts of this and the other task.
+
+        This is as ahead of the work: if a task is taken away in the tick, its part tells this already.
+        """
+        one, two = stand >> 7, stand >> 1 & 63
+        worker = worker_of(self.alone.takers, stand)
+        runner = 0 if one >= RUNS else 1 if two >= RUNS else None
+        bell = stand
+        if runner is not None:
+            runs, rests = (one, two) if runner == 0 else (two, one)
+            if self.alone.takers[(runs - RUNS) >> 2]:
+                lost, place = self.alone.after(runs, "lost")
+                bell = _placed(runner, lost, place, rests)
+                if worker != runner:
+                    return bell, worker, rests, lost
+        return (bell, worker, one, two) if worker == 0 else (bell, worker, two, one)
 
     def _behind_words(self, task, works, other):
         """The tuple of the stands behind the words of a tick in which a task works, in the order of the ticks."""
@@ -158,6 +173,19 @@ def number_of_stand(stand):
     """The number of a stand."""
     one, two, ahead = stand
     return number_of(one) << 7 | number_of(two) << 1 | (ahead or 0)
+
+
+def worker_of(takers, stand):
+    """The task that would work in a tick now, or `None`; told with `takes` of each level."""
+    one, two = stand >> 7, stand >> 1 & 63
+    if one >= RUNS:
+        return 1 if READY <= two < RUNS and (two - READY) >> 2 < takers[(one - RUNS) >> 2] else 0
+    if two >= RUNS:
+        return 0 if READY <= one < RUNS and (one - READY) >> 2 < takers[(two - RUNS) >> 2] else 1
+    if one < READY:
+        return None if two < READY else 1
+    # The parts of ready tasks at better levels have lesser numbers.
+    return 0 if two < READY or one >> 2 < two >> 2 or (one >> 2 == two >> 2 and not stand & 1) else 1
 
 
 def exchanged_number(stand):

@@ -4,7 +4,7 @@ from twoandabell.base.words import is_between, is_number, is_row
 from twoandabell.book.checks import check_book
 from twoandabell.book.states import is_posture
 from twoandabell.errors import InvalidLoad, InvalidNumber, InvalidOperation, InvalidStand
-from twoandabell.pair.graphs import BELL, TICKS, Graph, number_of_stand
+from twoandabell.pair.graphs import BELL, TICKS, Graph, number_of_stand, worker_of
 from twoandabell.run.loads import is_load
 from twoandabell.run.processors import Processor
 
@@ -35,8 +35,7 @@ def moves_at(book, stand):
 def worker_at(book, stand):
     """The task that would work in a tick now, or `None`."""
     _check_stand(book, stand)
-    worker, _, _ = Graph(book).row(number_of_stand(stand))
-    return worker
+    return worker_of([level.takes for level in book], number_of_stand(stand))
 
 
 def stand_after(book, stand, move):
@@ -44,11 +43,9 @@ def stand_after(book, stand, move):
     _check_stand(book, stand)
     graph = Graph(book)
     number = number_of_stand(stand)
-    moves = graph.moves_at(number)
-    if not _is_move(move) or move not in moves:
+    if not _is_move(move) or move not in graph.moves_at(number):
         raise InvalidOperation("this move is not possible")
-    _, comings, timed = graph.row(number)
-    return graph.stand([*comings, *timed][moves.index(move)])
+    return graph.stand(graph.stand_behind(number, move))
 
 
 def exchanged(book, stand):

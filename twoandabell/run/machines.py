@@ -12,11 +12,10 @@ class Machine:
     What a task is at is kept as a posture and as its number (book/alone.py); what a move leads to is told only once.
     """
 
-    def __init__(self, book):
-        self._book = book
-        self._alone = Alone(book)
-        self._takers = self._alone.takers
-        self._moves = {}
+    def __init__(self, alone, moves):
+        self._alone = alone
+        self._takers = alone.takers
+        self._moves = moves
         self._numbers = []
         self._postures = []
         self._rows = [[] for _ in self._takers]
@@ -36,22 +35,26 @@ class Machine:
             self._move(number, "wake")
             return
         comer = self._alone.comers[number]
-        self._rows[comer - READY >> 2].append(len(self._numbers))
+        self._rows[(comer - READY) >> 2].append(len(self._numbers))
         self._numbers.append(comer)
         self._postures.append(self._alone.part(comer))
 
     def let_all_in(self, comings):
         """Let the tasks of some comings come and wake, and return whether all of them could."""
         for coming in comings:
-            if not self.is_possible(coming):
+            word, number = coming
+            if word == "wake" and number < len(self._numbers) and self._numbers[number] < AWAY:
+                self._move(number, "wake")
+            elif word == "come" and number < len(self._alone.comers):
+                self.let_in(coming)
+            else:
                 return False
-            self.let_in(coming)
         return True
 
     def do_tick(self, word):
         """Do a tick behind its comings, and return what a chart tells of it."""
         worker = self._runner
-        if worker is not None and self._is_lost(worker, word):
+        if worker is not None and self._takers[(self._numbers[worker] - RUNS) >> 2] and self._is_lost(worker, word):
             self._move(worker, "lost")
             worker = self._runner = None
         if word == "bell":
@@ -102,9 +105,8 @@ class Machine:
 
     def twin(self):
         """An independent copy."""
-        copied = Machine(self._book)
         # What moves lead to never changes, so twins share it.
-        copied._moves = self._moves
+        copied = Machine(self._alone, self._moves)
         copied._numbers = list(self._numbers)
         copied._postures = list(self._postures)
         copied._rows = [list(row) for row in self._rows]
@@ -113,7 +115,7 @@ class Machine:
 
     def _is_lost(self, task, word):
         """Whether a tick with this word takes a running task away."""
-        takes = self._takers[self._numbers[task] - RUNS >> 2]
+        takes = self._takers[(self._numbers[task] - RUNS) >> 2]
         if not takes or word == "bell":
             return takes > 0
         for row in self._rows[:takes]:
@@ -135,15 +137,20 @@ class Machine:
         self._numbers[task] = number
         self._postures[task] = posture
         if place == "back":
-            self._rows[number - READY >> 2].append(task)
+            self._rows[(number - READY) >> 2].append(task)
         elif place is not None:
-            self._rows[number - READY >> 2].insert(0, task)
+            self._rows[(number - READY) >> 2].insert(0, task)
         return number
 
     def _told(self, key):
         """Tell and keep where a move leads: the number behind it, the posture, and the place in a queue, or `None`."""
         number, move = key
-        behind, place = self._alone.after(number, move)
+        behind, place = self._alone.tell(number & 15, move)
         found = (behind, self._alone.part(behind), place)
         self._moves[key] = found
         return found
+
+
+def machine_by(book):
+    """A machine without tasks that works by a book."""
+    return Machine(Alone(book), {})
