@@ -5,7 +5,7 @@ from twoandabell.book.alone import READY
 ON = ("tick", "on")
 BELL = ("bell",)
 # Where these moves stand among the bell and the ticks of a row.
-PLACES = {BELL: 0, ON: 2}
+PLACES = {("bell",): 0, ("tick", "on"): 2}
 
 
 class Races:
