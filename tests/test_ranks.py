@@ -20,7 +20,10 @@ PLAIN = Book(Level.plain(0, 1), Level.plain(1, 2), Level.plain(2), ranks=(0, 1, 
 # Here the worse one is not taken away, once it runs.
 KEPT = Book(Level.plain(0, 1), Level.plain(1, 3).replaced("takes", 0).replaced("used", (1, "front")), ranks=(0, 1))
 TURNS = Book(Level.plain(0, 3), ranks=(0, 0))
-SMALL = [FEED, LATE, ONE, WIDE, PLAIN, KEPT, TURNS, *[some_book(random.Random(seed)) for seed in range(12)]]
+# The worse one is taken away by a bell, but not by the better one; then it works no more.
+BELLS = Book(Level.plain(0, 1), Level.plain(1, 1), Level.plain(2, 3).replaced("takes", 1), ranks=(1, 2))
+BARE = Book(Level.plain(0), ranks=(0, 0))
+SMALL = [FEED, LATE, ONE, WIDE, PLAIN, KEPT, TURNS, BELLS, BARE, *[some_book(random.Random(seed)) for seed in range(12)]]
 RANKED = [(book, rank, other) for book in SMALL for rank in range(len(book.ranks)) for other in range(len(book.ranks))]
 
 
@@ -116,6 +119,7 @@ class Ahead(unittest.TestCase):
             if worse:
                 self.assertEqual((paper[0], len(paper[1])), ("works", min(worse) + 1))
                 self.assert_works(book, rank, other, paper[1])
+                self.assertIs(is_ahead_paper(book, rank, other, ("ahead", tuple(sorted(reached)))), False)
             else:
                 self.assertEqual(paper, ("ahead", tuple(sorted(reached))))
         self.assertTrue({("works", 1), ("works", 2), ("works", 3), ("ahead", 3)} <= words)
@@ -153,6 +157,8 @@ class Ahead(unittest.TestCase):
                      (((("come", 1), ("come", 0)), "on"), ((("wake", 1),), "on")),
                      (((("come", 1), ("come", 2)), "on"),)):
             self.assertIs(is_ahead_paper(ONE, 0, 1, ("works", load)), False, load)
+        for word in ("Works", "ahead", "most", None, 0, ["works"]):
+            self.assertIs(is_ahead_paper(ONE, 0, 1, (word, (((("come", 1), ("come", 0)), "on"),))), False)
         # Of two tasks of one rank either can be taken for the second one.
         self.assertIs(is_ahead_paper(ONE, 1, 1, ("works", (((("come", 1), ("come", 1)), "on"),))), True)
 
@@ -213,6 +219,7 @@ class Leads(unittest.TestCase):
         # Once it runs, the worse one goes on for the rest of its slice; without a slice for ever.
         self.assertEqual(lead(KEPT, 0, 1), 2)
         self.assertIsNone(lead(KEPT.with_entry("ticks", 1, None), 0, 1))
+        self.assertEqual([lead(BELLS, 0, 1), lead(BARE, 0, 1)], [2, None])
 
     def test_each_two_ranks(self):
         leads = set()
@@ -396,6 +403,10 @@ class LeadPapers(unittest.TestCase):
 
     def test_a_race_begins_where_both_are_there(self):
         word, _, _, table = lead_paper(ONE, 0, 1)
+        # In this one the first rank has the lead.
+        load = (((("come", 0), ("come", 1)), "on"),)
+        self.assertIs(is_lead_paper(ONE, 0, 1, (word, load, 0, table)), False)
+        self.assertIs(is_lead_paper(ONE, 1, 0, (word, load, 0, table)), True)
         # The lead is 1 if the race begins at tick 2; in the tick ahead of it one has not come, is asleep, or ends.
         for load in ((((("come", 1),), "on"), ((("come", 0),), "bell"), ((), "on")),
                      (((("come", 0), ("come", 1)), "sleep"), ((("wake", 0),), "bell"), ((), "on"))):

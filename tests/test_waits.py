@@ -5,7 +5,8 @@ import unittest
 
 from tests.reference import Scheduler, some_book, some_full_book, some_load
 from tests.samples import BOOKS, FEED, FORTY, FORTY_ONE, LATE, LOAD, ONE, OTHERS, WIDE
-from twoandabell.book.books import Book, Level
+from twoandabell.book.books import Book
+from twoandabell.book.states import way_to
 from twoandabell.errors import InvalidBook, InvalidLoad, InvalidNumber, InvalidOperation, Stopped
 from twoandabell.run.loads import chart, is_load
 from twoandabell.text.books import read_book
@@ -27,8 +28,19 @@ level ticks 1, used 1 back, wake 0 front new, way 1 back new, lost 1 front kept,
 # Who wakes enters at the front, ahead of those that wait there.
 FRONT = read_book("""ranks 0
 level ticks 2, used 0 back, wake 0 front new, way 0 back new, lost 0 back new, takes 0""")
+# As FRONT, but a task that has slept is asleep just as before.
+SLEEPY = FRONT.with_entry("ticks", 0, 1)
+# Among others those wait longest that come from the worst level, with nothing left; this is soonest by a bell.
+ROUND = read_book("""ranks 1 2 0
+level ticks 3, used 2 back, wake 0 back new, way 2 back new, lost 0 back new, takes 0
+level ticks 2, used 2 back, wake 2 back new, way 2 back new, lost 2 back kept, takes 1
+level ticks 3, used 2 back, wake 0 front kept, way 2 back new, lost 2 back kept, takes 0""")
+# Only a task that runs on at first works without end.
+FOREVER = read_book("""ranks 0 1
+level ticks 1, used 1 back, wake 0 back new, way 1 back new, lost 0 back new, takes 0
+level ticks none, used 1 back, wake 1 back new, way 1 back new, lost 1 front kept, takes 0""")
 CLOSED = Book(*FEED.levels, ranks=(0, 0))
-MANY_BOOKS = [FEED, LATE, ONE, WIDE, RUNNING, TWICE, FRONT]
+MANY_BOOKS = [FEED, LATE, ONE, WIDE, RUNNING, TWICE, FRONT, SLEEPY, ROUND, FOREVER]
 
 
 def many_open(many, seed):
@@ -226,6 +238,21 @@ class Loads(unittest.TestCase):
             self.assertEqual(last[4], longest_wait(book, *door, others))
         else:
             self.assertGreaterEqual(last[4], least)
+
+    def test_several_others_that_begin_in_other_ways(self):
+        # One runs at first, the others are asleep with nothing left, to which the soonest way is by a loss.
+        self.assertEqual((wait_line(ROUND, 0, "front"), way_to(ROUND, ("asleep", 2, 0))), ((3, 2), (0, ("on", "lost", "sleep"))))
+        load, task = wait_load(ROUND, 0, "front", 3)
+        last = [wait for wait in waits_told(ROUND, load) if wait[1] == task][-1]
+        self.assertEqual(last[2:], (0, "front", 11, True))
+        self.assertIn("bell", [word for _, word in load])
+        # Others have a bound, and only those that run on at first have none.
+        self.assertEqual([most_work(FOREVER, 0, "back", runs=runs) for runs in (False, True)], [1, None])
+        self.assertEqual([most_work(SLEEPY, 0, "front", runs=runs) for runs in (False, True)], [None, 0])
+        for book, place in ((FOREVER, "back"), (SLEEPY, "front")):
+            for least in (1, 2, 40):
+                found = wait_load(book, 0, place, 3, least=least)
+                self.assert_right(book, (0, place), 3, least, found)
 
     def test_other_pairs(self):
         for load, task in (

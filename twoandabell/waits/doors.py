@@ -25,7 +25,7 @@ class Door:
         self.sides = Sides(alone, level)
         self.asleep = asleep
         self.firsts = [*asleep, OUT, *ready]
-        self.runners = [number for number in reached if number >= RUNS and alone.takers[number - RUNS >> 2] <= level]
+        self.runners = [number for number in reached if number >= RUNS and alone.takers[(number - RUNS) >> 2] <= level]
 
     def bounds(self):
         """The most work of a life at the door, and that of one that runs on at first, each `None` without end."""
@@ -42,5 +42,5 @@ def doors_among(book, reached):
 
 def _is_ahead(number, level, place):
     """Whether a ready task is ahead of one that now enters a level at a place."""
-    other = number - READY >> 2
+    other = (number - READY) >> 2
     return other < level or (other == level and place == "back")

@@ -116,7 +116,7 @@ class Sides:
         """The side stand of a task with this part, which by this has entered a queue at a place, or not."""
         if not READY <= number < RUNS:
             return number
-        level = number - READY >> 2
+        level = (number - READY) >> 2
         return number if level < self._level or (level == self._level and place == "front") else BEHIND
 
     def _best_step(self, number):

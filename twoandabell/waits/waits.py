@@ -77,7 +77,7 @@ def _lives(door, line, others, least):
     if others == 0:
         return []
     sides = Sides(door.alone, door.level)
-    fresh = [number for number in door.firsts if number in door.alone.comers and number - READY >> 2 == door.level]
+    fresh = [number for number in door.firsts if number in door.alone.comers and (number - READY) >> 2 == door.level]
     firsts = [OUT, *fresh, *door.asleep]
     most = sides.most_of(firsts)
     if line is None:
@@ -114,22 +114,18 @@ def _all_brought(processor, alone, lives):
     tasks = [None for _ in lives]
     for index in sorted(list(range(len(lives))), key=lambda at: _turn(lives[at][0])):
         first, _ = lives[index]
-        if READY <= first < RUNS:
-            tasks[index] = processor.come(alone.comers.index(first))
-        elif first != OUT:
+        if first != OUT:
             tasks[index] = _brought(processor, alone.part(first))
     return tasks
 
 
 def _turn(number):
     """A number that tells when a task with this first side stand comes, beside those of other modes."""
-    if number < READY:
-        return 0
-    return 1 if number >= RUNS else 2
+    return 0 if number < READY else 1 if number >= RUNS else 2
 
 
 def _brought(processor, posture):
-    """The number of a task that is now brought to a posture, while all others are asleep."""
+    """The number of a task that is now brought to a posture, alone; one that is to be ready only comes."""
     rank, moves = way_to(processor.book, posture)
     task = processor.come(rank)
     _live(processor, task, [("bell",) if move == "lost" else (move,) for move in moves])
