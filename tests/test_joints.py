@@ -6,7 +6,6 @@ from unittest.mock import patch
 
 from tests.reference import lost_pair, parted_loads, some_book, some_full_book, some_pair, stands_by_form
 from tests.samples import BOOKS, FEED, FORTY, FORTY_ONE, LATE, LOAD, ONE, OTHERS, WIDE
-from twoandabell.book.alone import Alone
 from twoandabell.book.books import Book, Level
 from twoandabell.errors import InvalidBook, InvalidNumber, InvalidStand, TooMany
 from twoandabell.pair import joints
@@ -488,8 +487,8 @@ class Bounds(unittest.TestCase):
     def test_no_two_books_have_more_joint_stands(self):
         for book, other in (*PAIRS, *some_pairs(60, "bounds")):
             many = len(Walk(Graph(book), Graph(other), 10 ** 6).before)
-            self.assertFalse(are_at_most(Alone(book), Alone(other), many - 1))
-            self.assertTrue(are_at_most(Alone(book), Alone(other), 10 ** 6))
+            self.assertFalse(are_at_most(book.told_alone(), other.told_alone(), many - 1))
+            self.assertTrue(are_at_most(book.told_alone(), other.told_alone(), 10 ** 6))
 
     def test_a_walk_that_ends_early_tells_the_same(self):
         ended = 0

@@ -23,7 +23,8 @@ TURNS = Book(Level.plain(0, 3), ranks=(0, 0))
 # The worse one is taken away by a bell, but not by the better one; then it works no more.
 BELLS = Book(Level.plain(0, 1), Level.plain(1, 1), Level.plain(2, 3).replaced("takes", 1), ranks=(1, 2))
 BARE = Book(Level.plain(0), ranks=(0, 0))
-SMALL = [FEED, LATE, ONE, WIDE, PLAIN, KEPT, TURNS, BELLS, BARE, *[some_book(random.Random(seed)) for seed in range(12)]]
+BARE_BEST = Book(Level.plain(0), Level.plain(1, 2), ranks=(0, 1))
+SMALL = [FEED, LATE, ONE, WIDE, PLAIN, KEPT, TURNS, BELLS, BARE, BARE_BEST, *[some_book(random.Random(seed)) for seed in range(12)]]
 RANKED = [(book, rank, other) for book in SMALL for rank in range(len(book.ranks)) for other in range(len(book.ranks))]
 
 
@@ -160,7 +161,11 @@ class Ahead(unittest.TestCase):
         for word in ("Works", "ahead", "most", None, 0, ["works"]):
             self.assertIs(is_ahead_paper(ONE, 0, 1, (word, (((("come", 1), ("come", 0)), "on"),))), False)
         # Of two tasks of one rank either can be taken for the second one.
-        self.assertIs(is_ahead_paper(ONE, 1, 1, ("works", (((("come", 1), ("come", 1)), "on"),))), True)
+        two = (("come", 1), ("come", 1))
+        self.assertIs(is_ahead_paper(ONE, 1, 1, ("works", ((two, "on"),))), True)
+        for load in (((two, "bell"),), ((two, "end"), ((), "on"), ((), "on")), (((*two, ("come", 1)), "on"),), ((two[:1], "on"),),
+                     (((("come", 0), ("come", 1)), "on"),), (((("come", 0), ("come", 0)), "on"),)):
+            self.assertIs(is_ahead_paper(ONE, 1, 1, ("works", load)), False, load)
 
     def test_tables(self):
         for rank, other in ((0, 1), (0, 2), (1, 2)):

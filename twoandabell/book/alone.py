@@ -15,28 +15,39 @@ MODES = ("asleep", "ready", "runs")
 
 
 class Alone:
-    """What one task comes to by a book; each move is told when it is first asked for, and then kept."""
+    """What one task comes to by the book with some levels and ranks; a move is told when first asked for, and kept."""
 
-    def __init__(self, book):
-        levels = book.levels
+    def __init__(self, levels, ranks):
         self._levels = levels
         self._ticks = [level.ticks for level in levels]
         self.takers = [level.takes for level in levels]
-        self.comers = [READY + 4 * level + (self._ticks[level] or 0) for level in book.ranks]
+        self.comers = [READY + 4 * level + (self._ticks[level] or 0) for level in ranks]
         self._known = {}
         self._parts = {}
+        self._moves = {}
+        self._reached = None
 
     def after(self, number, move):
         """The pair of the number behind a move of a task alone, and of the place of the queue it enters, or `None`."""
         key = (number, move)
         found = self._known.get(key)
         if found is None:
-            found = self.tell(number & 15, move)
+            found = self._told(number & 15, move)
             self._known[key] = found
         return found
 
-    def tell(self, state, move):
-        """What `after` tells of a task with this own state, awake or asleep; this is not kept."""
+    def after_with_part(self, key):
+        """What `after` tells of a pair of a number and a move, and the part behind it in between."""
+        found = self._moves.get(key)
+        if found is None:
+            number, move = key
+            behind, place = self._told(number & 15, move)
+            found = (behind, self.part(behind), place)
+            self._moves[key] = found
+        return found
+
+    def _told(self, state, move):
+        """What `after` tells of a task with this own state, awake or asleep."""
         index = state >> 2
         level = self._levels[index]
         if move == "wake":
@@ -76,16 +87,18 @@ class Alone:
         return sum(many), sum([1 if ticks is None else ticks - 1 for ticks in self._ticks])
 
     def reached(self):
-        """The ascending list of the numbers of all postures to which moves lead from those of comers."""
-        asleep, ready, runs = {}, {}, {}
-        waiting = [number - READY for number in self.comers]
-        while waiting:
-            state = waiting.pop()
-            if state not in ready:
-                ready[state] = True
-                self._work_through(state, asleep, runs, waiting)
-        found = [READY + state for state in ready] + [RUNS + state for state in runs]
-        return sorted(list(asleep) + found)
+        """The ascending tuple of the numbers of all postures to which moves lead from those of comers."""
+        if self._reached is None:
+            asleep, ready, runs = {}, {}, {}
+            waiting = [number - READY for number in self.comers]
+            while waiting:
+                state = waiting.pop()
+                if state not in ready:
+                    ready[state] = True
+                    self._work_through(state, asleep, runs, waiting)
+            found = [READY + state for state in ready] + [RUNS + state for state in runs]
+            self._reached = tuple(sorted(list(asleep) + found))
+        return self._reached
 
     def postures(self, numbers):
         """The tuple of the postures with some numbers."""

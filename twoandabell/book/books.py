@@ -2,6 +2,7 @@
 
 from twoandabell.base.words import ASCENDING_LEVEL_WORDS, ENTRY_WORDS, LEVEL_WORDS, MAX_LEVELS, MAX_RANKS, MAX_SLICE
 from twoandabell.base.words import PLACES, RESTS, is_between, is_entry, is_row
+from twoandabell.book.alone import Alone
 from twoandabell.errors import InvalidBook, InvalidLevel, InvalidNumber, InvalidOperation, UnknownName
 
 
@@ -89,6 +90,7 @@ class Book:
             raise InvalidBook("these are not the levels of its ranks")
         self._levels = levels
         self._ranks = ranks
+        self._alone = None
 
     @classmethod
     def of(cls, levels, ranks):
@@ -111,6 +113,12 @@ class Book:
     def is_open(self):
         """Whether each level is that of some rank."""
         return all([index in self._ranks for index in range(len(self._levels))])
+
+    def told_alone(self):
+        """What one task alone comes to by the book; this is kept, for it is asked for again and again."""
+        if self._alone is None:
+            self._alone = Alone(self._levels, self._ranks)
+        return self._alone
 
     def entries(self):
         """The ascending tuple of the keys of all entries."""

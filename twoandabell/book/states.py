@@ -1,7 +1,6 @@
 """Own states of tasks, and the postures of a task alone."""
 
 from twoandabell.base.words import is_between, is_row
-from twoandabell.book.alone import Alone
 from twoandabell.book.checks import check_book
 from twoandabell.book.moves import MODES, QUEUE_WORDS, after_move, comer_state, entered, possible_moves, worked_state
 from twoandabell.errors import InvalidNumber, InvalidOperation, InvalidState, UnknownName
@@ -66,7 +65,7 @@ def posture_after(book, posture, move):
 def postures(book):
     """The ascending tuple of all postures to which moves lead from those of comers."""
     check_book(book)
-    alone = Alone(book)
+    alone = book.told_alone()
     return alone.postures(alone.reached())
 
 

@@ -3,7 +3,7 @@
 from twoandabell.book.checks import check_books
 from twoandabell.errors import InvalidLoad
 from twoandabell.run.loads import is_load
-from twoandabell.run.machines import machine_by
+from twoandabell.run.machines import Machine
 
 
 def two_of(book, other, load):
@@ -42,7 +42,7 @@ def _told(book, other, load):
     check_books(book, other)
     found = []
     if is_load(load):
-        one, two = machine_by(book), machine_by(other)
+        one, two = Machine(book), Machine(other)
         for comings, word in load:
             # As long as the charts are equal the same tasks are asleep, so the same comings are possible.
             if (found and found[-1][0] != found[-1][1]) or not (one.let_all_in(comings) and two.let_all_in(comings)):

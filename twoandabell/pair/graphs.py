@@ -4,7 +4,7 @@ The number of a stand is made of those of its two parts (book/alone.py) and of a
 is the one ahead at the level of both. So numbers are ascending as stands are.
 """
 
-from twoandabell.book.alone import AWAY, ENDED, READY, RUNS, Alone, number_of
+from twoandabell.book.alone import AWAY, ENDED, READY, RUNS, number_of
 
 # The number of the first stand, at which both are away.
 FIRST_STAND = 1560
@@ -28,7 +28,7 @@ class Graph:
     """
 
     def __init__(self, book, first=None, second=None):
-        self.alone = Alone(book)
+        self.alone = book.told_alone()
         every = list(range(len(book.ranks)))
         self._ranks = (every if first is None else first, every if second is None else second)
         self.rows = {}

@@ -3,7 +3,7 @@
 from twoandabell.base.words import NUMBER_LIMIT, TICK_WORDS, is_between
 from twoandabell.book.checks import check_book, check_books
 from twoandabell.errors import InvalidLoad, InvalidNumber, Stopped
-from twoandabell.run.machines import machine_by
+from twoandabell.run.machines import Machine
 
 MAX_LOAD = 400
 MAX_COMINGS = 20
@@ -35,7 +35,7 @@ def chart(book, load):
     """The tuple that tells for each tick of a load which task works, `None` if it is idle, and `"bell"` for a bell."""
     check_book(book)
     check_load(load)
-    machine = machine_by(book)
+    machine = Machine(book)
     told = []
     for comings, word in load:
         if comings and not machine.let_all_in(comings):
@@ -48,7 +48,7 @@ def pictures(book, load):
     """A generator of what each task that has come is at, behind each tick of a load."""
     check_book(book)
     check_load(load)
-    machine = machine_by(book)
+    machine = Machine(book)
     for index, tick in enumerate(load):
         _done(machine, index, tick)
         yield machine.all_postures()
@@ -58,7 +58,7 @@ def first_parted(book, other, load):
     """The index of the tick of a load at which two books part, or `None`."""
     check_books(book, other)
     check_load(load)
-    one, two = machine_by(book), machine_by(other)
+    one, two = Machine(book), Machine(other)
     for index, tick in enumerate(load):
         if _done(one, index, tick) != _done(two, index, tick):
             return index

@@ -1,6 +1,6 @@
 """A machine: tasks that come, wake and work by a book. Nothing is checked here: callers do it."""
 
-from twoandabell.book.alone import AWAY, ENDED, READY, RUNS, Alone
+from twoandabell.book.alone import AWAY, ENDED, READY, RUNS
 from twoandabell.run.queues import queues_with
 
 ENDED_PICTURE = ("ended",)
@@ -9,13 +9,13 @@ ENDED_PICTURE = ("ended",)
 class Machine:
     """The tasks that have come, what each of them is at, and the queues of the ready ones.
 
-    What a task is at is kept as a posture and as its number (book/alone.py); what a move leads to is told only once.
+    What a task is at is kept as a posture and as its number (book/alone.py).
     """
 
-    def __init__(self, alone, moves):
-        self._alone = alone
-        self._takers = alone.takers
-        self._moves = moves
+    def __init__(self, book):
+        self._book = book
+        self._alone = book.told_alone()
+        self._takers = self._alone.takers
         self._numbers = []
         self._postures = []
         self._rows = [[] for _ in self._takers]
@@ -105,8 +105,7 @@ class Machine:
 
     def twin(self):
         """An independent copy."""
-        # What moves lead to never changes, so twins share it.
-        copied = Machine(self._alone, self._moves)
+        copied = Machine(self._book)
         copied._numbers = list(self._numbers)
         copied._postures = list(self._postures)
         copied._rows = [list(row) for row in self._rows]
@@ -132,8 +131,7 @@ class Machine:
 
     def _move(self, task, move):
         """Let a task that is in no queue make a move, and return the number of what it is at then."""
-        key = (self._numbers[task], move)
-        number, posture, place = self._moves.get(key) or self._told(key)
+        number, posture, place = self._alone.after_with_part((self._numbers[task], move))
         self._numbers[task] = number
         self._postures[task] = posture
         if place == "back":
@@ -141,16 +139,3 @@ class Machine:
         elif place is not None:
             self._rows[(number - READY) >> 2].insert(0, task)
         return number
-
-    def _told(self, key):
-        """Tell and keep where a move leads: the number behind it, the posture, and the place in a queue, or `None`."""
-        number, move = key
-        behind, place = self._alone.tell(number & 15, move)
-        found = (behind, self._alone.part(behind), place)
-        self._moves[key] = found
-        return found
-
-
-def machine_by(book):
-    """A machine without tasks that works by a book."""
-    return Machine(Alone(book), {})

@@ -5,7 +5,7 @@ from twoandabell.book.checks import check_book
 from twoandabell.errors import InvalidLoad, InvalidNumber, InvalidOperation, TooMany
 from twoandabell.run.histories import Moment, Trial, redo_steps, undo_steps
 from twoandabell.run.loads import MAX_COMINGS, MAX_LOAD, MAX_TASKS, is_load
-from twoandabell.run.machines import machine_by
+from twoandabell.run.machines import Machine
 
 
 class Call(Moment):
@@ -29,7 +29,7 @@ class Processor:
     def __init__(self, book):
         check_book(book)
         self._book = book
-        self._now = Call(machine_by(book))
+        self._now = Call(Machine(book))
         self._undone = ()
 
     def come(self, rank):

@@ -1,7 +1,7 @@
 """The doors of a book, and what another task can be at when one enters by them."""
 
 from twoandabell.base.words import is_number
-from twoandabell.book.alone import READY, RUNS, Alone
+from twoandabell.book.alone import READY, RUNS
 from twoandabell.book.checks import check_book
 from twoandabell.errors import InvalidOperation
 from twoandabell.waits.sides import OUT, Sides
@@ -12,7 +12,7 @@ class Door:
 
     def __init__(self, book, level, place):
         check_book(book)
-        alone = Alone(book)
+        alone = book.told_alone()
         reached = alone.reached()
         # A boolean would be taken for a number.
         if not is_number(level) or (level, place) not in doors_among(book, reached):

@@ -1,7 +1,7 @@
 """Loads of two tasks of two ranks. They have the form of loads, but need not be possible."""
 
 from twoandabell.pair.graphs import number_of_stand
-from twoandabell.run.machines import machine_by
+from twoandabell.run.machines import Machine
 
 
 def works_beside_ready(book, rank, other, load):
@@ -9,7 +9,7 @@ def works_beside_ready(book, rank, other, load):
     second = _second_task(load, rank, other)
     if second is None:
         return False
-    machine = machine_by(book)
+    machine = Machine(book)
     worker = None
     for comings, word in load:
         if not machine.let_all_in(comings):
@@ -30,7 +30,7 @@ def raced(book, rank, other, load, tick):
     second = _second_task(load, rank, other)
     if second is None:
         return None
-    machine = machine_by(book)
+    machine = Machine(book)
     gained = 0
     for index, (comings, word) in enumerate(load):
         if not machine.let_all_in(comings) or (index == tick and not _are_both_there(machine)):

@@ -4,7 +4,7 @@ from twoandabell.base.words import is_number
 from twoandabell.book.checks import check_book
 from twoandabell.errors import InvalidNumber, Stopped
 from twoandabell.run.loads import check_load
-from twoandabell.run.machines import machine_by
+from twoandabell.run.machines import Machine
 from twoandabell.waits.doors import Door
 
 
@@ -12,7 +12,7 @@ def waits_in(book, load):
     """The tuple of (tick, task, level, place, length, is_over) for all waits of a load, as they begin."""
     check_book(book)
     check_load(load)
-    machine = machine_by(book)
+    machine = Machine(book)
     waits = []
     # The indices of the waits that are not over, by their tasks, and the number of ticks in which tasks worked.
     waiting = {}

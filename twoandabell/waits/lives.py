@@ -1,7 +1,7 @@
 """What one other task can do beside a task that waits."""
 
 from twoandabell.base.words import is_between, is_number, is_row
-from twoandabell.book.alone import Alone, number_of
+from twoandabell.book.alone import number_of
 from twoandabell.book.checks import check_book
 from twoandabell.book.states import is_posture
 from twoandabell.errors import InvalidNumber, InvalidOperation, InvalidStand
@@ -12,7 +12,7 @@ from twoandabell.waits.sides import BEHIND, BEHIND_STAND, BELL, OUT, OUT_STAND, 
 def doors(book):
     """The ascending tuple of the pairs of a level and a place by which a task can come or wake."""
     check_book(book)
-    return doors_among(book, Alone(book).reached())
+    return doors_among(book, book.told_alone().reached())
 
 
 def first_stands(book, level, place, *, runs=False):
@@ -28,7 +28,7 @@ def steps_from(book, level, stand):
         raise InvalidNumber(level)
     if not _is_side_stand(book, level, stand):
         raise InvalidStand("this has not the form of a side stand")
-    sides = Sides(Alone(book), level)
+    sides = Sides(book.told_alone(), level)
     return {step: sides.stand(behind) for step, behind in sides.steps(_number_of(stand))}
 
 
