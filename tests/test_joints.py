@@ -7,10 +7,12 @@ from unittest.mock import patch
 from tests.reference import lost_pair, parted_loads, some_book, some_full_book, some_pair, stands_by_form
 from tests.samples import BOOKS, FEED, FORTY, FORTY_ONE, LATE, LOAD, ONE, OTHERS, WIDE
 from twoandabell.book.books import Book, Level
+from twoandabell.book.states import fresh, moves_alone, posture_after
 from twoandabell.errors import InvalidBook, InvalidNumber, InvalidStand, TooMany
-from twoandabell.pair import joints
+from twoandabell.pair import bounds, joints
 from twoandabell.pair.bounds import are_at_most
 from twoandabell.pair.cuts import cut
+from twoandabell.pair.forms import Forms
 from twoandabell.pair.graphs import BITS, FIRST_STAND, MASK, Graph, number_of_stand
 from twoandabell.pair.joints import Reach, alike, is_paper, is_table, paper, parting_load
 from twoandabell.pair.stands import FIRST, exchanged, is_stand, load_of, moves_at, stand_after, worker_at
@@ -483,7 +485,61 @@ class Quick(unittest.TestCase):
                                  [stand_after(book, stand, move) for move in moves])
 
 
+class Reading(unittest.TestCase):
+    def test_stands_are_read_as_they_are(self):
+        for book in (FEED, ONE, WIDE, some_book(random.Random("forms"))):
+            forms = Forms(book)
+            for stand in stands_by_form(book):
+                self.assertEqual(forms.read_stand(stand) & MASK, number_of_stand(stand))
+            kinds = {}
+            for stand in stands_by_form(book):
+                kinds.setdefault(forms.read_stand(stand) >> BITS, set()).add((kind(stand[0]), kind(stand[1])))
+            self.assertTrue(all(len(found) == 1 for found in kinds.values()))
+            self.assertEqual(len(kinds), 16)
+
+    def test_what_is_no_stand_is_not_read(self):
+        values = (True, False, None, 0, 1, 2, 3, -1, 5, FORTY, "0", "ready", "away", (), (0,), [], {}, [0], FEED, ("away",))
+        for book in (FEED, ONE, WIDE):
+            forms = Forms(book)
+            for stand in stands_by_form(book)[::7]:
+                changed = [(*stand[:at], value, *stand[at + 1:]) for at in range(3) for value in values]
+                for task in (0, 1):
+                    for at in range(len(stand[task])):
+                        for value in values:
+                            part = (*stand[task][:at], value, *stand[task][at + 1:])
+                            changed.append((part, *stand[1:]) if task == 0 else (stand[0], part, stand[2]))
+                    part = (*stand[task], None)
+                    changed.append((part, *stand[1:]) if task == 0 else (stand[0], part, stand[2]))
+                for value in (*changed, stand[:2], (*stand, None), list(stand), stand):
+                    self.assertIs(forms.read_stand(value) is not None, is_stand(book, value), value)
+            for value in values:
+                self.assertIsNone(forms.read_stand(value))
+
+
 class Bounds(unittest.TestCase):
+    def test_the_pairs_that_are_counted(self):
+        for book, other in (*PAIRS, *some_pairs(40, "sizes")):
+            found, waiting = set(), [(("ready", *fresh(book, rank)), ("ready", *fresh(other, rank)))
+                                     for rank in range(len(book.ranks))]
+            while waiting:
+                pair = waiting.pop()
+                if pair not in found:
+                    found.add(pair)
+                    one, two = pair
+                    both = [move for move in moves_alone(book, one) if move in moves_alone(other, two) and move != "lost"]
+                    waiting += [(posture_after(book, one, move), posture_after(other, two, move)) for move in both]
+                    waiting += [(left, right) for left in self.with_loss(book, one) for right in self.with_loss(other, two)]
+            ready = [(one[0] == "ready", two[0] == "ready") for one, two in found]
+            right = (len(found) + 2, sum(one for one, _ in ready), sum(two for _, two in ready), sum(map(all, ready)))
+            told = (book.told_alone(), other.told_alone())
+            self.assertEqual(bounds._sizes_by_moves(*told), right)
+            self.assertTrue(all(most >= many for most, many in zip(bounds._sizes_by_form(*told), right)))
+
+    def with_loss(self, book, posture):
+        """A posture, and the one behind a loss, if this is possible."""
+        lost = "lost" in moves_alone(book, posture)
+        return [posture, posture_after(book, posture, "lost")] if lost else [posture]
+
     def test_no_two_books_have_more_joint_stands(self):
         for book, other in (*PAIRS, *some_pairs(60, "bounds")):
             many = len(Walk(Graph(book), Graph(other), 10 ** 6).before)

@@ -127,7 +127,7 @@ class NoLines(unittest.TestCase):
                 "wait feed back 0 1", "wait feed 0 Back 1", "wait feed 0 side 1", "wait feed x back 1", "wait feed 0 back x",
                 "wait feed 00 back 1", "wait feed 0 back 12345678901", "wait feed 12345678901 back 1", "wait feed 0 front back 1",
                 "lead feed 0", "lead feed 0 1 2", "lead feed 0 x", "lead feed -1 0", "lead feed 0 01", "lead feed 12345678901 0",
-                "lead 0 0 0", "log", "twin", "kinds", "put;a x", "names;", "bell", "tick on"):
+                "lead 0 0 0", "wait no 0 side 1", "wait no 0 backs 1", "log", "twin", "kinds", "put;a x", "names;", "bell", "tick on"):
             self.assert_no_line(shell, line)
 
     def test_numbers_of_ten_digits_are_lines(self):
@@ -228,6 +228,7 @@ class Objects(unittest.TestCase):
         self.assertEqual(desk.log, (("put", "feed"), ("put", "late")))
         self.assertEqual(shell.log, (f"put feed {text(FEED)}", "names"))
         self.assertEqual((shell.do("undo 2"), desk.books), ("0", ()))
+        self.assertEqual((shell.do("redo 1"), shell.do("names"), shell.do("undo 1")), ("1", "feed", "0"))
         for name in ("desk", "log"):
             with self.assertRaises(AttributeError):
                 setattr(shell, name, ())

@@ -49,18 +49,13 @@ def _told(book, other, load):
                 raise InvalidLoad("the books part ahead of this tick, or a coming is not possible")
             runner, other_runner = one.running(), two.running()
             worker, other_worker = one.do_tick(word), two.do_tick(word)
-            lost = _lost(one, runner, worker)
-            found.append((worker, other_worker, lost, _lost(two, other_runner, other_worker)))
+            # In a bell nobody works, so those that run count as taken away; but each bell stays anyway.
+            lost = None if runner == worker else runner
+            other_lost = None if other_runner == other_worker else other_runner
+            found.append((worker, other_worker, lost, other_lost))
     if not found or found[-1][0] == found[-1][1]:
         raise InvalidLoad("the books do not part at the last tick of this load")
     return found
-
-
-def _lost(machine, runner, worker):
-    """The task that ran, if it has been taken away in a tick that is now done, and otherwise `None`."""
-    if worker == "bell":
-        return runner if machine.running() is None else None
-    return None if worker == runner else runner
 
 
 def _last_two(told):
