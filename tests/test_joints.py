@@ -498,10 +498,10 @@ class Reading(unittest.TestCase):
             self.assertEqual(len(kinds), 16)
 
     def test_what_is_no_stand_is_not_read(self):
-        values = (True, False, None, 0, 1, 2, 3, -1, 5, FORTY, "0", "ready", "away", (), (0,), [], {}, [0], FEED, ("away",))
-        for book in (FEED, ONE, WIDE):
+        values = (True, False, None, 0, 1, 2, 3, -1, 5, FORTY, "0", "ready", "runs", "asleep", "away", (), (0,), [], {}, [0], FEED, ("away",))
+        for book in (FEED, ONE, WIDE, Book(Level.plain(0), Level.plain(1, 2), ranks=(0,))):
             forms = Forms(book)
-            for stand in stands_by_form(book)[::7]:
+            for stand in stands_by_form(book)[::3]:
                 changed = [(*stand[:at], value, *stand[at + 1:]) for at in range(3) for value in values]
                 for task in (0, 1):
                     for at in range(len(stand[task])):

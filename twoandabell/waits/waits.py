@@ -1,7 +1,7 @@
 """Loads in which a task waits as long as it can among some others."""
 
 from twoandabell.base.words import is_between, is_number, is_row
-from twoandabell.book.alone import READY, RUNS
+from twoandabell.book.alone import READY
 from twoandabell.book.states import way_to
 from twoandabell.errors import InvalidNumber, InvalidOperation, Stopped
 from twoandabell.run.loads import is_load, many_comers
@@ -109,19 +109,15 @@ def _sleeping_posture(book, door):
 def _all_brought(processor, alone, lives):
     """The list of the tasks with these lives, each brought to its first side stand, `None` for one that is out.
 
-    Those that are asleep at first come ahead of one that runs, and those that are ready behind it.
+    One that runs is brought there when all others are asleep; those that are to be ready come behind it.
     """
     tasks = [None for _ in lives]
-    for index in sorted(list(range(len(lives))), key=lambda at: _turn(lives[at][0])):
+    asleep = [index for index, (first, _) in enumerate(lives) if first < OUT]
+    awake = [index for index, (first, _) in enumerate(lives) if first > OUT]
+    for index in [*asleep, *awake]:
         first, _ = lives[index]
-        if first != OUT:
-            tasks[index] = _brought(processor, alone.part(first))
+        tasks[index] = _brought(processor, alone.part(first))
     return tasks
-
-
-def _turn(number):
-    """A number that tells when a task with this first side stand comes, beside those of other modes."""
-    return 0 if number < READY else 1 if number >= RUNS else 2
 
 
 def _brought(processor, posture):
