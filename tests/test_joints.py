@@ -529,11 +529,26 @@ class Bounds(unittest.TestCase):
                     both = [move for move in moves_alone(book, one) if move in moves_alone(other, two) and move != "lost"]
                     waiting += [(posture_after(book, one, move), posture_after(other, two, move)) for move in both]
                     waiting += [(left, right) for left in self.with_loss(book, one) for right in self.with_loss(other, two)]
-            ready = [(one[0] == "ready", two[0] == "ready") for one, two in found]
-            right = (len(found) + 2, sum(one for one, _ in ready), sum(two for _, two in ready), sum(map(all, ready)))
             told = (book.told_alone(), other.told_alone())
-            self.assertEqual(bounds._sizes_by_moves(*told), right)
-            self.assertTrue(all(most >= many for most, many in zip(bounds._sizes_by_form(*told), right)))
+            pairs = bounds._pairs_by_moves(*told)
+            self.assertEqual({(told[0].part(one), told[1].part(two)) for one, two in pairs}, found)
+            self.assertEqual(len(pairs), len(found))
+            every = [*found, (("away",), ("away",)), (("ended",), ("ended",))]
+            right = sum(self.joints_of(one, two) for one in every for two in every)
+            self.assertGreaterEqual(bounds._most_of(pairs), right)
+            self.assertGreaterEqual(bounds._most_by_form(*told), right)
+            # It is told a little too high only where both run by one book and are ready by the other.
+            ready = [pair for pair in found if {pair[0][0], pair[1][0]} == {"ready", "runs"}]
+            self.assertLessEqual(bounds._most_of(pairs), right + 2 * len(ready) ** 2)
+
+    def joints_of(self, one, two):
+        """The number of the joint stands by their form of two tasks with these parts by both books."""
+        many = 1
+        for left, right in zip(one, two):
+            if left[0] == right[0] == "runs":
+                return 0
+            many *= 2 if left[0] == right[0] == "ready" and left[1] == right[1] else 1
+        return many
 
     def with_loss(self, book, posture):
         """A posture, and the one behind a loss, if this is possible."""
