@@ -24,7 +24,7 @@ class Alone:
         self.comers = [READY + 4 * level + (self._ticks[level] or 0) for level in ranks]
         self._known = {}
         self._parts = {}
-        self._moves = {}
+        self.kept = {}
         self._reached = None
 
     def after(self, number, move):
@@ -37,13 +37,11 @@ class Alone:
         return found
 
     def after_with_part(self, key):
-        """What `after` tells of a pair of a number and a move, and the part behind it in between."""
-        found = self._moves.get(key)
-        if found is None:
-            number, move = key
-            behind, place = self._told(number & 15, move)
-            found = (behind, self.part(behind), place)
-            self._moves[key] = found
+        """What `after` tells of a pair of a number and a move, with the part behind it; this is put into `kept`."""
+        number, move = key
+        behind, place = self._told(number & 15, move)
+        found = (behind, self.part(behind), place)
+        self.kept[key] = found
         return found
 
     def _told(self, state, move):

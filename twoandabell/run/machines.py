@@ -16,6 +16,7 @@ class Machine:
         self._book = book
         self._alone = book.told_alone()
         self._takers = self._alone.takers
+        self._kept = self._alone.kept
         self._numbers = []
         self._postures = []
         self._rows = [[] for _ in self._takers]
@@ -131,7 +132,8 @@ class Machine:
 
     def _move(self, task, move):
         """Let a task that is in no queue make a move, and return the number of what it is at then."""
-        number, posture, place = self._alone.after_with_part((self._numbers[task], move))
+        key = (self._numbers[task], move)
+        number, posture, place = self._kept.get(key) or self._alone.after_with_part(key)
         self._numbers[task] = number
         self._postures[task] = posture
         if place == "back":
