@@ -44,26 +44,11 @@ class Alone:
         self.kept[key] = found
         return found
 
-    def _told(self, state, move):
-        """What `after` tells of a task with this own state, awake or asleep."""
-        index = state >> 2
-        level = self._levels[index]
-        if move == "wake":
-            entry = level.wake
-        elif move == "lost":
-            entry = level.lost
-        else:
-            bare = self._ticks[index] is None
-            state = state if bare else state - 1
-            if move == "sleep":
-                return (state, None)
-            if move == "on":
-                if bare or state & 3:
-                    return (RUNS + state, None)
-                entry = level.used
-                return (READY + self._anew(entry[0]), entry[1])
-            entry = level.way
-        return (READY + self._entering(entry, state & 3), entry[1])
+    def entered(self, word, state):
+        """The pair of the number and the place with which a task with an own state enters by the entry with a word."""
+        entry = self._levels[state >> 2][word]
+        behind = self._anew(entry[0]) if word == "used" else self._entering(entry, state & 3)
+        return (READY + behind, entry[1])
 
     def part(self, number):
         """The part with this number."""
@@ -126,6 +111,18 @@ class Alone:
             runs[state] = True
             for entry in entries:
                 waiting.append(self._entering(entry, left))
+
+    def _told(self, state, move):
+        """What `after` tells of a task with this own state, awake or asleep."""
+        if move in ("wake", "lost"):
+            return self.entered(move, state)
+        bare = self._ticks[state >> 2] is None
+        state = state if bare else state - 1
+        if move == "sleep":
+            return (state, None)
+        if move == "way":
+            return self.entered(move, state)
+        return (RUNS + state, None) if bare or state & 3 else self.entered("used", state)
 
     def _entering(self, entry, left):
         """The own state with which a task enters by a triple of a level, a place and a rest; 0 left is as `None`."""

@@ -1,9 +1,11 @@
 """Own states of tasks, and the postures of a task alone."""
 
 from twoandabell.base.words import is_between, is_row
+from twoandabell.book.alone import MODES, number_of
 from twoandabell.book.checks import check_book
-from twoandabell.book.moves import MODES, QUEUE_WORDS, after_move, comer_state, entered, possible_moves, worked_state
 from twoandabell.errors import InvalidNumber, InvalidOperation, InvalidState, UnknownName
+
+QUEUE_WORDS = ("used", "wake", "way", "lost")
 
 
 def is_state(book, value):
@@ -27,7 +29,8 @@ def fresh(book, rank):
     check_book(book)
     if not is_between(rank, 0, len(book.ranks) - 1):
         raise InvalidNumber(rank)
-    return comer_state(book, rank)
+    level = book.ranks[rank]
+    return (level, book.levels[level].ticks)
 
 
 def worked(book, state):
@@ -35,7 +38,8 @@ def worked(book, state):
     _check_state(book, state)
     if state[1] == 0:
         raise InvalidState("nothing is left to work")
-    return worked_state(state)
+    level, left = state
+    return (level, None if left is None else left - 1)
 
 
 def moved(book, word, state):
@@ -44,22 +48,26 @@ def moved(book, word, state):
     if word not in QUEUE_WORDS:
         raise UnknownName(word)
     _check_state(book, state)
-    return entered(book, word, state)
+    alone = book.told_alone()
+    number, place = alone.entered(word, number_of(("asleep", *state)))
+    _, level, left = alone.part(number)
+    return (level, left), place
 
 
 def moves_alone(book, posture):
     """The ascending tuple of the moves that are possible."""
     _check_posture(book, posture)
-    return possible_moves(book, posture)
+    return _possible_moves(book, posture)
 
 
 def posture_after(book, posture, move):
     """The next posture."""
     _check_posture(book, posture)
-    if move not in possible_moves(book, posture):
+    if move not in _possible_moves(book, posture):
         raise InvalidOperation("this move is not possible")
-    behind, _ = after_move(book, posture, move)
-    return behind
+    alone = book.told_alone()
+    number, _ = alone.after(number_of(posture), move)
+    return alone.part(number)
 
 
 def postures(book):
@@ -72,10 +80,17 @@ def postures(book):
 def way_to(book, posture):
     """A pair of a rank and the moves, as few as possible, that lead from its comer to the posture."""
     _check_posture(book, posture)
-    ways = _shortest_ways(book)
-    if posture not in ways:
+    alone = book.told_alone()
+    end = number_of(posture)
+    if end not in alone.reached():
         raise InvalidState("no moves lead to this posture")
-    return ways[posture]
+    ways = {}
+    for rank, comer in enumerate(alone.comers):
+        ways.setdefault(comer, (rank, ()))
+    layer = list(ways)
+    while end not in ways:
+        layer = _next_layer(book, layer, ways)
+    return ways[end]
 
 
 def _check_state(book, state):
@@ -90,24 +105,24 @@ def _check_posture(book, posture):
         raise InvalidState("this is no posture by the book")
 
 
-def _shortest_ways(book):
-    """A dict from each posture that is reached to one of its shortest ways."""
-    ways = {}
-    for rank in range(len(book.ranks)):
-        ways.setdefault(("ready", *comer_state(book, rank)), (rank, ()))
-    layer = list(ways)
-    while layer:
-        layer = _next_layer(book, layer, ways)
-    return ways
+def _possible_moves(book, posture):
+    """The ascending tuple of the moves of a task alone that are possible."""
+    mode, level, _ = posture
+    if mode == "asleep":
+        return ("wake",)
+    if mode == "runs" and book.levels[level].takes >= 1:
+        return ("lost", "on", "sleep", "way")
+    return ("on", "sleep", "way")
 
 
 def _next_layer(book, layer, ways):
-    """Tell the ways of the postures one move behind those of a layer that had none, and return these postures."""
+    """Tell the ways of the postures one move behind those of a layer that had none, and return these, by numbers."""
+    alone = book.told_alone()
     found = []
-    for posture in layer:
-        rank, moves = ways[posture]
-        for move in possible_moves(book, posture):
-            behind, _ = after_move(book, posture, move)
+    for number in layer:
+        rank, moves = ways[number]
+        for move in _possible_moves(book, alone.part(number)):
+            behind, _ = alone.after(number, move)
             if behind not in ways:
                 ways[behind] = (rank, (*moves, move))
                 found.append(behind)

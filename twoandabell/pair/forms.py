@@ -1,7 +1,6 @@
 """The forms of stands and of tables, read into numbers. Nothing is asked of books here but what their slices are."""
 
-from twoandabell.book.alone import AWAY, ENDED, READY, RUNS
-from twoandabell.book.moves import MODES
+from twoandabell.book.alone import AWAY, ENDED, MODES, READY, RUNS
 from twoandabell.pair.graphs import BITS, MASK
 
 FIRST_JOINT = ((("away",), ("away",), None), (("away",), ("away",), None))
