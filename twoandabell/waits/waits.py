@@ -102,8 +102,10 @@ def _long_life(sides, firsts, least):
 
 def _sleeping_posture(book, door):
     """A posture of a task that can wake by a door, with as short a way to it as any."""
-    found = [number for number in door.asleep if book.levels[number >> 2].wake[:2] == (door.level, door.place)]
-    return min([door.alone.part(number) for number in found], key=lambda posture: len(way_to(book, posture)[1]))
+    found = [door.alone.part(number) for number in door.asleep
+             if book.levels[number >> 2].wake[:2] == (door.level, door.place)]
+    _, nearest = min([(len(way_to(book, posture)[1]), posture) for posture in found])
+    return nearest
 
 
 def _all_brought(processor, alone, lives):
