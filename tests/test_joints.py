@@ -24,6 +24,23 @@ NO_BOOKS = (*OTHERS, *FEED.levels, FEED.levels, LOAD)
 HUGE = [some_full_book(random.Random(seed)) for seed in (1, 2)]
 HUGE_LOAD = (((("come", 1), ("come", 0)), "way"), ((), "on"))
 CALM = ONE.with_entry("lost", 0, (0, "front", "kept"))
+# By these books both tasks can be asleep in level 0, with nothing left or without a slice. This has the number 0.
+SHORT = Book(
+    Level(1, used=(0, "back"), wake=(0, "front", "kept"), way=(0, "front", "kept"), lost=(0, "front", "kept")),
+    ranks=(0,),
+)
+DEEP = Book(
+    Level(1, used=(0, "back"), wake=(1, "front", "kept"), way=(0, "back", "new"), lost=(1, "front", "new")),
+    Level(1, used=(1, "back"), wake=(1, "back", "kept"), way=(0, "back", "new"), lost=(1, "front", "new")),
+    ranks=(0,),
+)
+BARE = Book(
+    Level(used=(1, "back"), wake=(1, "back", "new"), way=(0, "back", "new"), lost=(0, "front", "new")),
+    Level(used=(0, "front"), wake=(1, "back", "kept"), way=(0, "front", "kept"), lost=(1, "back", "kept")),
+    ranks=(0,),
+)
+CLEAR = BARE.with_entry("wake", 0, (0, "front", "new"))
+BOTH_ASLEEP = [(SHORT, DEEP), (DEEP, SHORT), (BARE, CLEAR), (CLEAR, BARE)]
 
 
 def some_pairs(many, seed):
@@ -39,7 +56,7 @@ def is_small(book, other):
         return False
 
 
-PAIRS = [(FEED, FEED), (FEED, LATE), (ONE, CALM), (ONE, FEED), (WIDE, WIDE),
+PAIRS = [(FEED, FEED), (FEED, LATE), (ONE, CALM), (ONE, FEED), (WIDE, WIDE), *BOTH_ASLEEP,
          *[pair for pair in some_pairs(25, "joints") if is_small(*pair)]]
 
 
@@ -99,19 +116,60 @@ class Reaching(unittest.TestCase):
                 self.assertEqual(reach.layer(many), tuple(sorted(joint for joint in right if right[joint] == many)))
             self.assertEqual((reach.layer(10 ** 6), reach.layer(FORTY)), ((), ()))
 
+    def joints_on_way(self, book, other, joint, moves):
+        """The joint stands ahead of each of some moves, which lead to a joint stand."""
+        found, at = [], (FIRST, FIRST)
+        for move in moves:
+            possible = {one: behind for one, _, behind in steps(book, other, at)}
+            self.assertIn(move, possible)
+            found.append(at)
+            at = possible[move]
+        self.assertEqual(at, joint)
+        return found
+
     def test_moves_that_lead_to_a_joint_stand(self):
         for book, other in PAIRS:
             right, reach = all_reached(book, other), Reach(book, other)
             for joint in reach.joints:
-                moves, at = reach[joint], (FIRST, FIRST)
+                moves = reach[joint]
                 self.assertIsInstance(moves, tuple)
-                for move in moves:
-                    possible = {one: behind for one, _, behind in steps(book, other, at)}
-                    self.assertIn(move, possible)
-                    at = possible[move]
-                self.assertEqual(at, joint)
+                self.joints_on_way(book, other, joint, moves)
                 self.assertEqual(len([move for move in moves if move[0] in ("tick", "bell")]), right[joint])
             self.assertEqual(reach[FIRST, FIRST], ())
+
+    def test_moves_that_lead_on_from_both_asleep(self):
+        """Both tasks asleep in level 0, with nothing left or without a slice, is a joint stand like any other."""
+        for book, other in BOTH_ASLEEP:
+            asleep = [("asleep", 0, None if one["ticks", 0] is None else 0) for one in (book, other)]
+            both = tuple((part, part, None) for part in asleep)
+            reach = Reach(book, other)
+            self.assertEqual([move[0] for move in reach[both]].count("tick"), 2)
+            ways = [self.joints_on_way(book, other, joint, reach[joint]) for joint in reach.joints]
+            # If no way went on from there, this would not be tested.
+            self.assertTrue(any(both in way for way in ways))
+
+    def test_moves_that_lead_to_joint_stands_of_many_books(self):
+        for book, other in some_pairs(150, "ways"):
+            if is_small(book, other):
+                reach = Reach(book, other)
+                for joint in reach.joints:
+                    moves = reach[joint]
+                    self.joints_on_way(book, other, joint, moves)
+                    self.assertIn(joint, reach.layer(len([move for move in moves if move[0] in ("tick", "bell")])))
+
+    def test_each_stand_is_exchanged_once(self):
+        swap = Graph.swap
+        for book, other in BOTH_ASLEEP:
+            told = []
+
+            def counted(graph, number):
+                told.append((graph.alone is book.told_alone(), number))
+                return swap(graph, number)
+
+            with patch.object(Graph, "swap", counted):
+                Walk(Graph(book), Graph(other), 200)
+            self.assertIn((True, 0), told)
+            self.assertEqual(len(told), len(set(told)))
 
     def test_what_is_reached_is_joint(self):
         for book, other in PAIRS:

@@ -13,16 +13,17 @@ class Walk:
     stand of each two is gone on from.
 
     `before` leads from each of these to one ahead of it, on a way with as few ticks and bells as possible, and from the
-    first one to 0; from each of the others it leads to the one of the two with a minus. `layers` has for each number of
-    ticks and bells the list of those that need so many. `apart` is the list of those at which different tasks would
-    work, the nearest ones first. If it is not `whole`, a walk can end there.
+    first one to `None`; from each of the others it leads to the complement (`~`) of the one of the two, which is below
+    0 for every number, also for 0. `layers` has for each number of ticks and bells the list of those that need so many.
+    `apart` is the list of those at which different tasks would work, the nearest ones first. If it is not `whole`, a
+    walk can end there.
     """
 
     def __init__(self, one, other, limit, *, whole=True):
         first = FIRST_STAND << BITS | FIRST_STAND
         self.one = one
         self.other = other
-        self.before = {first: 0}
+        self.before = {first: None}
         self.layers = []
         self.apart = []
         self._limit = limit
@@ -55,12 +56,14 @@ class Walk:
 
     def moves_to(self, joint):
         """The tuple of moves, with as few ticks and bells as possible, that lead to a reached joint stand."""
-        if self.before[joint] < 0:
-            return tuple([_exchanged_move(move) for move in self.moves_to(-self.before[joint])])
+        start = self.before[joint]
+        if start is not None and start < 0:
+            return tuple([_exchanged_move(move) for move in self.moves_to(~start)])
         moves = []
-        while self.before[joint] > 0:
-            moves.append(self._move_between(self.before[joint], joint))
-            joint = self.before[joint]
+        while start is not None:
+            moves.append(self._move_between(start, joint))
+            joint = start
+            start = self.before[joint]
         return tuple(moves[::-1])
 
     def shortest_load(self):
@@ -124,8 +127,8 @@ class Walk:
             for one, two in zip(stands, other_stands):
                 near = one << BITS | two
                 if near not in before:
-                    mirror = (swaps.get(one) or self.one.swap(one)) << BITS
-                    before[mirror | (other_swaps.get(two) or self.other.swap(two))] = -near
+                    mirror = (swaps[one] if one in swaps else self.one.swap(one)) << BITS
+                    before[mirror | (other_swaps[two] if two in other_swaps else self.other.swap(two))] = ~near
                     # It can be its own mirror.
                     before[near] = joint
                     found.append(near)
